@@ -1,0 +1,1 @@
+"""Onlyheard: routines that are written out by what they heard alone."""

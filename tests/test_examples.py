@@ -1,0 +1,39 @@
+"""The examples of the document's interface, as they stand there."""
+
+import unittest
+
+from onlyheard.errors import BadRoutine
+from onlyheard.routines import Routine
+from onlyheard.stands import begun, choices, heard, picked, tells, told
+
+OWN = (("hear", "p", "a"), ("open", ((("tell", "q", 1),), (("tell", "q", ("name", "a")),))))
+
+
+class Examples(unittest.TestCase):
+    def test_routine(self):
+        own = Routine(OWN)
+        self.assertEqual(
+            [own.names(), own.ports(), own.paths(), own.open_lines(), own.statement((1, 0, 0))],
+            [["a"], ["p", "q"], [(0,), (1,), (1, 0, 0), (1, 1, 0)], [(1,)], ("tell", "q", 1)],
+        )
+
+    def test_bad_routines(self):
+        with self.assertRaises(BadRoutine) as caught:
+            Routine((("set", "a", 3), ("leave",)))
+        self.assertEqual(caught.exception.what, (1,))
+        with self.assertRaises(BadRoutine) as caught:
+            Routine((("repeat", (("set", "a", ("plus", ("name", "a"), 5)),)),))
+        self.assertEqual(caught.exception.what, (0,))
+
+    def test_stands(self):
+        own = Routine(OWN)
+        stand = heard(own, begun(own), "p", 7)
+        behind = picked(own, stand, 1)
+        self.assertEqual(
+            [begun(own), stand, choices(own, stand), tells(own, behind), told(own, behind)],
+            [("at", (0,), (0,)), ("at", (1,), (7,)), 2, ("q", 7), ("home",)],
+        )
+
+
+if __name__ == "__main__":
+    unittest.main()

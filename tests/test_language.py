@@ -1,0 +1,122 @@
+"""Those rules of LANGUAGE.md that are easily broken by oversight, checked over the text of the package."""
+
+import ast
+import builtins
+import pathlib
+import unittest
+
+PACKAGE = pathlib.Path(__file__).resolve().parent.parent / "onlyheard"
+FILES = sorted(path for path in PACKAGE.rglob("*") if path.is_file() and "__pycache__" not in path.parts)
+LIBRARY = ("heapq", "math", "itertools", "collections")
+BUILTINS = (
+    "len range enumerate zip min max sum abs sorted reversed int str bool bytes list tuple dict set frozenset "
+    "isinstance ord repr any all divmod pow getattr hasattr setattr iter next map Exception ValueError TypeError "
+    "KeyError IndexError LookupError ZeroDivisionError ArithmeticError OverflowError RuntimeError "
+    "NotImplementedError AttributeError StopIteration NotImplemented"
+).split()
+METHODS = (
+    "append clear copy count endswith extend find get index insert isalnum isalpha isdigit islower isspace isupper "
+    "items join keys ljust lower lstrip partition pop remove replace reverse rfind rjust rpartition rsplit rstrip "
+    "setdefault split splitlines startswith strip update upper values zfill bit_length add discard"
+).split()
+BARRED_WORDS = (
+    "typing typing_extensions enum Enum IntEnum StrEnum Flag IntFlag Generic Protocol ABC ABCMeta namedtuple "
+    "NamedTuple TypedDict TYPE_CHECKING abstractmethod dataclass overload contextmanager register mro elements input "
+    "law version_info with_traceback add_note"
+).split()
+BARRED_NODES = (ast.GeneratorExp, ast.AsyncFunctionDef, ast.AsyncFor, ast.AsyncWith, ast.Await, ast.Div)
+
+
+def trees():
+    return [(path, ast.parse(path.read_text())) for path in FILES]
+
+
+def nodes(*kinds):
+    return [(path.name, node) for path, tree in trees() for node in ast.walk(tree) if isinstance(node, kinds)]
+
+
+class Files(unittest.TestCase):
+    def test_only_python_files_with_plain_names(self):
+        self.assertIn(PACKAGE / "__init__.py", FILES)
+        for path in FILES:
+            self.assertRegex(path.name, r"^[a-z0-9_]+\.py$")
+
+    def test_sizes_and_signs(self):
+        for path in FILES:
+            lines = path.read_text().split("\n")
+            self.assertLessEqual(len(lines) - 1, 399, path)
+            for line in lines:
+                self.assertLessEqual(len(line), 120, path)
+                self.assertTrue(all(" " <= sign <= "~" for sign in line), path)
+
+    def test_functions_have_at_most_forty_lines(self):
+        for name, node in nodes(ast.FunctionDef):
+            self.assertLessEqual(node.end_lineno - node.lineno + 1, 40, (name, node.name))
+
+    def test_every_function_and_class_of_the_interface_has_a_docstring(self):
+        for name, node in nodes(ast.FunctionDef, ast.ClassDef, ast.Module):
+            if not getattr(node, "name", "").startswith("_"):
+                self.assertIsNotNone(ast.get_docstring(node), (name, getattr(node, "name", "")))
+
+
+class Words(unittest.TestCase):
+    def test_imports(self):
+        for name, node in nodes(ast.Import, ast.ImportFrom):
+            self.assertIsInstance(node, ast.ImportFrom, name)
+            self.assertEqual(node.level, 0, name)
+            self.assertTrue(node.module in LIBRARY or node.module.startswith("onlyheard."), (name, node.module))
+            self.assertTrue(all(alias.name != "*" and alias.asname is None for alias in node.names), name)
+
+    def test_each_import_names_the_file_that_defines_the_name(self):
+        defined = {}
+        for path, tree in trees():
+            for node in tree.body:
+                targets = [node.name] if hasattr(node, "name") else [t.id for t in getattr(node, "targets", [])]
+                defined.setdefault(f"onlyheard.{path.stem}", set()).update(targets)
+        for name, node in nodes(ast.ImportFrom):
+            if node.module not in LIBRARY:
+                for alias in node.names:
+                    self.assertIn(alias.name, defined[node.module], name)
+
+    def test_no_two_files_import_from_each_other(self):
+        needs = {f"onlyheard.{path.stem}": set() for path in FILES}
+        for name, node in nodes(ast.ImportFrom):
+            needs["onlyheard." + name[:-3]].add(node.module)
+        while needs:
+            free = [name for name in needs if not needs[name] & set(needs)]
+            self.assertNotEqual(free, [], needs)
+            for name in free:
+                del needs[name]
+
+    def test_builtins(self):
+        known = set(dir(builtins))
+        for name, node in nodes(ast.Name):
+            if isinstance(node.ctx, ast.Load):
+                self.assertTrue(node.id not in known or node.id in BUILTINS, (name, node.id))
+            else:
+                self.assertNotIn(node.id, known, name)
+        for name, node in nodes(ast.arg):
+            self.assertNotIn(node.arg, known, name)
+
+    def test_methods(self):
+        own = {node.name for _, node in nodes(ast.FunctionDef)}
+        for name, node in nodes(ast.Call):
+            if isinstance(node.func, ast.Attribute):
+                self.assertIn(node.func.attr, set(METHODS) | own, name)
+
+    def test_barred_words(self):
+        for path in FILES:
+            names = {node.id for node in ast.walk(ast.parse(path.read_text())) if isinstance(node, ast.Name)}
+            self.assertEqual(names & set(BARRED_WORDS), set(), path)
+
+    def test_barred_nodes(self):
+        self.assertEqual(nodes(*BARRED_NODES), [])
+
+    def test_no_default_values_but_plain_ones(self):
+        for name, node in nodes(ast.FunctionDef):
+            for value in node.args.defaults:
+                self.assertIsInstance(value, (ast.Constant, ast.Name, ast.Tuple), name)
+
+
+if __name__ == "__main__":
+    unittest.main()
