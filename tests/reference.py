@@ -2,9 +2,8 @@
 
 import re
 
-KEPT_WORDS = (
-    "set tell hear wait on open or if else repeat leave home fail end plus minus same less not routine own over"
-).split()
+from samples import KEPT_WORDS
+
 # Each part of a statement: n a name, e an expression, b a block, r rows, o blocks.
 STATEMENTS = {
     "set": "ne", "tell": "ne", "hear": "nn", "wait": "r", "open": "o", "if": "ebb", "repeat": "b",
