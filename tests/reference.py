@@ -209,3 +209,116 @@ def run(block, held, path=()):
             raise Left
         else:
             raise Ended(("home",) if head == "home" else ("fail", here))
+
+
+def stand_behind(block, deeds):
+    """(stand, statement) behind some deeds, done one by one from the begin; no statement at home or behind a fail."""
+    held = {name: 0 for name in names_in(block)}
+    steps = run(block, held)
+    try:
+        statement, path = next(steps)
+        for deed in deeds:
+            statement, path = steps.send(deed)
+    except StopIteration:
+        return ("home",), (None,)
+    except Ended as ended:
+        return ended.args[0], (None,)
+    return ("at", path, tuple(held[name] for name in sorted(held))), statement
+
+
+class Game:
+    """A play in which each world is told by what each routine did from the begin on."""
+
+    def __init__(self, blocks, own, over=()):
+        self.blocks, self.own, self.over = blocks, own, over
+        self.names = sorted(blocks)
+        self.known = {}
+
+    def first(self):
+        return {name: () for name in self.names}
+
+    def at(self, deeds):
+        for name in self.names:
+            if (name, deeds[name]) not in self.known:
+                self.known[name, deeds[name]] = stand_behind(self.blocks[name], deeds[name])
+        return {name: self.known[name, deeds[name]] for name in self.names}
+
+    def world(self, deeds):
+        return tuple(self.at(deeds)[name][0] for name in self.names)
+
+    def digit(self, deeds, name):
+        """What the routine tells."""
+        stand, statement = self.at(deeds)[name]
+        held = dict(zip(sorted(names_in(self.blocks[name])), stand[2]))
+        return value_of(statement[2], held)
+
+    def moves(self, deeds):
+        at = self.at(deeds)
+        if any(stand[0] == "fail" for stand, _ in at.values()):
+            return []
+        found = []
+        for name, (_, statement) in at.items():
+            if statement[0] == "open":
+                found += [("pick", name, k) for k, _ in enumerate(statement[1])]
+            if statement[0] == "tell":
+                for other, (_, hears) in at.items():
+                    if hears[0] == "hear" and hears[1] == statement[1]:
+                        found.append(("tell", name, other, statement[1]))
+                    if hears[0] == "wait" and statement[1] in [row[0] for row in hears[1]]:
+                        found.append(("tell", name, other, statement[1]))
+        return sorted(found)
+
+    def behind(self, deeds, move):
+        after = dict(deeds)
+        if move[0] == "pick":
+            after[move[1]] += (move[2],)
+        else:
+            after[move[1]] += (None,)
+            after[move[2]] += ((move[3], self.digit(deeds, move[1])),)
+        return after
+
+    def notice(self, deeds, move):
+        if move[0] == "pick":
+            return ("pick", move[2]) if move[1] == self.own else None
+        if move[1] == self.own:
+            return ("told", move[3])
+        digit = self.digit(deeds, move[1])
+        if move[2] == self.own:
+            return ("heard", move[3], digit)
+        return ("over", move[3], digit) if move[3] in self.over else None
+
+    def walk(self, most):
+        """The dict from the worlds, in the order of the walk, to the dicts from moves to (notice, world behind).
+
+        None if there are more worlds than told.
+        """
+        first = self.first()
+        todo, known = [first], {self.world(first): {}}
+        for deeds in todo:
+            for move in self.moves(deeds):
+                after = self.behind(deeds, move)
+                if self.world(after) not in known:
+                    known[self.world(after)] = {}
+                    todo.append(after)
+                known[self.world(deeds)][move] = (self.notice(deeds, move), self.world(after))
+            if len(known) > most:
+                return None
+        return known
+
+
+def unseen_from(known, some):
+    """All worlds that moves without a notice lead to from some worlds, they themselves among them."""
+    while True:
+        more = {after for world in some for noted, after in known[world].values() if noted is None} - some
+        if not more:
+            return some
+        some = some | more
+
+
+def may_be(known, row):
+    """The set of the worlds behind a row, set by set."""
+    some = unseen_from(known, {next(iter(known))})
+    for wanted in row:
+        some = unseen_from(known, {
+            after for world in some for noted, after in known[world].values() if noted == wanted})
+    return some

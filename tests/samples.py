@@ -1,6 +1,7 @@
 """Values that several tests need: wrong values of every kind, and shared checks."""
 
 from onlyheard import errors
+from onlyheard.plays import Play
 from onlyheard.routines import Routine
 
 KEPT_WORDS = (
@@ -43,6 +44,7 @@ def wrong_values():
     plain = [None, True, False, -1, 10, 10 ** 5000, -(10 ** 5000), (), [], {}]
     plain += WRONG_NAMES
     plain += [Routine(()), Routine((("tell", "p", 1),)), errors.HeardError("a"), errors.BadRoutine((0,))]
+    plain += [Play({"a": Routine(()), "b": Routine(())}, "a"), example_play(("p",))]
     plain += [[0], [1, 2], ["a"], {0: 1}, {"a": "b"}, {(0,): ()}, [("set", "a", 1)], {"set": ("a", 1)}]
     plain += [(0,) * 100000, [0] * 100000, tuple(range(1000)), "ab" * 100000]
     values = list(plain)
@@ -56,6 +58,17 @@ def wrong_values():
         # As a tree these have 2 ** 80 leaves: nothing may walk through all of them.
         values += [nested(value, wrap, 80) for value in (0, True, "a")]
     return values
+
+
+def caught(kind, call, *values, **named):
+    """What the error tells that the call raises."""
+    try:
+        call(*values, **named)
+    except kind as error:
+        if type(error) is not kind:
+            raise
+        return error.what
+    raise AssertionError("no error")
 
 
 def wrong_at(block):
@@ -79,3 +92,64 @@ def many_statements(many):
     rest = (("if", 1, leaf, leaf),) * 11 + (("if", 1, leaf, leaf[:2]),)
     block = (("if", 1, middle, middle),) * 9 + (("if", 1, middle, rest),)
     return block + (("set", "a", 1),) * (many - 6000)
+
+
+def counting(names):
+    """The statements that add 1 to the number whose digits, the lowest one last, the names have."""
+    carry = (("if", ("name", names[-1]), (), counting(names[:-1])),) if len(names) > 1 else ()
+    return (("set", names[-1], ("plus", ("name", names[-1]), 1)), *carry)
+
+
+def counter(many, port="p"):
+    """A routine that tells `many` times at the port, 1 to 9999 times, and then is home."""
+    ending = (("leave",),)
+    for name, digit in zip("abcd", f"{many:04}"):
+        ending = (("if", ("same", ("name", name), int(digit)), ending, ()),)
+    return Routine((("repeat", (("tell", port, ("name", "d")), *counting("abcd"), *ending)),))
+
+
+def listener(port="p"):
+    """A routine that hears at the port again and again."""
+    return Routine((("repeat", (("hear", port, "x"),)),))
+
+
+def counted(many):
+    """A play that has one world more than told; its runs are the ways through them one by one."""
+    return Play({"us": listener(), "teller": counter(many)}, "us")
+
+
+def picker(many):
+    """A routine that does `many` open lines of one empty block each, 0 to 22 of them."""
+    line = ("open", ((),))
+    return Routine((*[line] * min(many, 11), ("if", 1, (line,) * max(many - 11, 0), ())))
+
+
+def example_play(over=()):
+    """The play of the document's examples."""
+    own = (("hear", "p", "a"), ("open", ((("tell", "q", 1),), (("tell", "q", ("name", "a")),))))
+    pick = ("open", ((("set", "x", 1),), (("set", "x", 2),)))
+    test = ("if", ("same", ("name", "x"), ("name", "y")), (), (("fail",),))
+    foe = (pick, ("tell", "p", ("name", "x")), ("hear", "q", "y"), test)
+    return Play({"foe": Routine(foe), "us": Routine(own)}, "us", over)
+
+
+def four_play(over=()):
+    """A play with every kind of statement at which a routine stands; "us" is the own routine."""
+    value = ("name", "m")
+    return Play({
+        "left": Routine((("tell", "p", 3), ("tell", "s", 7))),
+        "mid": Routine((("open", ((("tell", "q", value),), (("set", "m", 4), ("tell", "q", value)))),)),
+        "right": Routine((("wait", (("p", "b", ()), ("s", "c", ()), ("r", "b", ()))), ("hear", "s", "b"))),
+        "us": Routine((
+            ("wait", (("q", "a", (("tell", "r", ("name", "a")),)), ("p", "a", ()))),
+            ("open", ((("home",),), (("fail",),), ())),
+        )),
+    }, "us", over)
+
+
+def endless_play(over=()):
+    """A play in which one move is possible again and again."""
+    return Play({"teller": Routine((("repeat", (("tell", "p", 1),)),)), "us": listener()}, "us", over)
+
+
+ENDLESS = ("tell", "teller", "us", "p")

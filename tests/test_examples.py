@@ -3,8 +3,10 @@
 import unittest
 
 from onlyheard.errors import BadRoutine
+from onlyheard.plays import Play
 from onlyheard.routines import Routine
 from onlyheard.stands import begun, choices, heard, picked, tells, told
+from onlyheard.worlds import behind, first_world, led, moves, worlds
 
 OWN = (("hear", "p", "a"), ("open", ((("tell", "q", 1),), (("tell", "q", ("name", "a")),))))
 
@@ -33,6 +35,22 @@ class Examples(unittest.TestCase):
             [begun(own), stand, choices(own, stand), tells(own, behind), told(own, behind)],
             [("at", (0,), (0,)), ("at", (1,), (7,)), 2, ("q", 7), ("home",)],
         )
+
+    def test_worlds(self):
+        own = Routine(OWN)
+        pick = ("open", ((("set", "x", 1),), (("set", "x", 2),)))
+        test = ("if", ("same", ("name", "x"), ("name", "y")), (), (("fail",),))
+        foe = Routine((pick, ("tell", "p", ("name", "x")), ("hear", "q", "y"), test))
+        play = Play({"foe": foe, "us": own}, "us")
+        run = [("pick", "foe", 1), ("tell", "foe", "us", "p"), ("pick", "us", 0), ("tell", "us", "foe", "q")]
+        self.assertEqual(
+            [moves(play, first_world(play)), len(worlds(play)), led(play, run)[-1]],
+            [[("pick", "foe", 0), ("pick", "foe", 1)], 11, (("fail", (3, 1, 0)), ("home",))],
+        )
+        world = first_world(play)
+        for move in run:
+            world = behind(play, world, move)
+        self.assertEqual(world, led(play, run)[-1])
 
 
 if __name__ == "__main__":

@@ -12,7 +12,7 @@ BUILTINS = (
     "len range enumerate zip min max sum abs sorted reversed int str bool bytes list tuple dict set frozenset "
     "isinstance ord repr any all divmod pow getattr hasattr setattr iter next map Exception ValueError TypeError "
     "KeyError IndexError LookupError ZeroDivisionError ArithmeticError OverflowError RuntimeError "
-    "NotImplementedError AttributeError StopIteration NotImplemented"
+    "NotImplementedError AttributeError StopIteration NotImplemented property"
 ).split()
 METHODS = (
     "append clear copy count endswith extend find get index insert isalnum isalpha isdigit islower isspace isupper "
@@ -111,6 +111,28 @@ class Words(unittest.TestCase):
 
     def test_barred_nodes(self):
         self.assertEqual(nodes(*BARRED_NODES), [])
+
+    def test_no_decorators_but_properties(self):
+        for name, node in nodes(ast.FunctionDef, ast.ClassDef):
+            for decorator in node.decorator_list:
+                self.assertEqual(ast.unparse(decorator), "property", (name, node.name))
+
+    def test_locals_do_not_have_the_name_of_a_function_a_class_or_an_import_of_their_file(self):
+        for path, tree in trees():
+            taken = {node.name for node in tree.body if isinstance(node, (ast.FunctionDef, ast.ClassDef))}
+            taken |= {alias.name for node in tree.body if isinstance(node, ast.ImportFrom) for alias in node.names}
+            for node in ast.walk(tree):
+                if isinstance(node, ast.arg):
+                    self.assertNotIn(node.arg, taken, path)
+                if isinstance(node, ast.Name) and isinstance(node.ctx, ast.Store):
+                    self.assertNotIn(node.id, taken, path)
+
+    def test_methods_and_attributes_of_a_class_have_unlike_names(self):
+        for name, node in nodes(ast.ClassDef):
+            methods = {item.name for item in node.body if isinstance(item, ast.FunctionDef)}
+            attributes = [sub for sub in ast.walk(node) if isinstance(sub, ast.Attribute)]
+            stored = {sub.attr for sub in attributes if isinstance(sub.ctx, ast.Store)}
+            self.assertEqual(methods & stored, set(), (name, node.name))
 
     def test_no_default_values_but_plain_ones(self):
         for name, node in nodes(ast.FunctionDef):

@@ -4,63 +4,10 @@ import random
 import unittest
 
 import reference
+from makers import Maker, blocks
 from onlyheard.routines import Routine
 from onlyheard.stands import begun, choices, heard, listens, picked, tells, told
 from samples import wrong_at
-
-WRONG = [None, True, (), ("set", "a", True), ("leave", 1), ("if", 1, ()), ("tell", "set", 1), ("set", "a", 10)]
-
-
-class Maker:
-    """Makes blocks at random."""
-
-    def __init__(self, seed, wrong):
-        self.dice = random.Random(seed)
-        self.wrong = wrong
-
-    def expression(self, deepest):
-        kind = self.dice.choice(["digit", "name", "name", "plus", "minus", "same", "less", "not"])
-        if kind == "digit" or deepest == 1:
-            return self.dice.randrange(10)
-        if kind == "name":
-            return ("name", self.dice.choice("abc"))
-        many = 1 if kind == "not" else 2
-        return (kind, *[self.expression(deepest - 1) for _ in range(many)])
-
-    def block(self, deepest, in_repeat):
-        longest = 3 if deepest > 0 else 2
-        return tuple(self.item(deepest, in_repeat) for _ in range(self.dice.randrange(longest + 1)))
-
-    def item(self, deepest, in_repeat):
-        if self.dice.random() < self.wrong:
-            return self.dice.choice(WRONG)
-        kinds = ["set", "set", "tell", "hear", "home", "fail"] + ["leave"] * (4 if in_repeat else self.wrong > 0)
-        if deepest > 0:
-            kinds += ["wait", "open", "if", "if", "open", "repeat", "repeat", "repeat"]
-        kind = self.dice.choice(kinds)
-        if kind in ("leave", "home", "fail"):
-            return (kind,)
-        if kind == "set":
-            return ("set", self.dice.choice("abc"), self.expression(3))
-        if kind == "tell":
-            return ("tell", self.dice.choice("pqr"), self.expression(3))
-        if kind == "hear":
-            return ("hear", self.dice.choice("pqr"), self.dice.choice("abc"))
-        many = self.dice.randrange(1, 4)
-        blocks = [self.block(deepest - 1, in_repeat or kind == "repeat") for _ in range(max(2, many))]
-        if kind == "wait":
-            ports = self.dice.sample("pqrs", many)
-            return ("wait", tuple((port, self.dice.choice("abc"), block) for port, block in zip(ports, blocks)))
-        if kind == "open":
-            return ("open", tuple(blocks[:many]))
-        if kind == "if":
-            return ("if", self.expression(3), blocks[0], blocks[1])
-        return ("repeat", blocks[0])
-
-
-def blocks(many, wrong, seed):
-    maker = Maker(seed, wrong)
-    return [maker.block(maker.dice.randrange(1, 6), False) for _ in range(many)]
 
 
 class Checks(unittest.TestCase):

@@ -6,7 +6,7 @@ from onlyheard import stands
 from onlyheard.errors import NoDigit, NoPick, NoPort, NoStand, NoTell
 from onlyheard.routines import Routine
 from onlyheard.stands import begun, choices, heard, listens, picked, tells, told
-from samples import wrong_values
+from samples import caught, wrong_values
 
 A = ("name", "a")
 TELL = ("tell", "p", 1)
@@ -43,17 +43,6 @@ NO_STANDS = [
     ("fail", (4,), (0, 0)), ("fail", (True,)), ("fail", (3, 0, 0)), ["fail", (4,)], ("home", ()), ("home", (0,)),
     ["home"], "home", "at", ("home", "home"), ("leave",), ("end",), (("home",),), {"home": True}, ((0,), (0, 0)),
 ]
-
-
-def caught(kind, call, *values):
-    """What the error tells that the call raises."""
-    try:
-        call(*values)
-    except kind as error:
-        if type(error) is not kind:
-            raise
-        return error.what
-    raise AssertionError("no error")
 
 
 class Runs(unittest.TestCase):
