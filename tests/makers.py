@@ -88,3 +88,54 @@ def plays(many, seed):
             ports = maker.dice.sample("pqsx", maker.dice.randrange(3))
             found.append((made, maker.dice.choice(names), tuple(sorted(ports))))
     return found
+
+
+class Rounds:
+    """Makes plays of rounds, in each of which one routine picks a digit that the own one must tell."""
+
+    def __init__(self, seed):
+        self.dice = random.Random(seed)
+
+    def often(self, chance):
+        return self.dice.random() < chance
+
+    def round(self):
+        """The statements of a round for the foe, for the own routine, and for one that hears what is overheard."""
+        digits = self.dice.sample([1, 2, 3], 2)
+        foe = [("open", tuple((("set", "x", digit),) for digit in digits))]
+        own, third = [], []
+        told = self.dice.choice(["p", "p", "r", "r", None])
+        if told is not None:
+            foe.append(("tell", told, ("name", "x")))
+            if told == "p":
+                own.append(("hear", "p", "a"))
+            else:
+                third.append(("hear", "r", "z"))
+        if self.often(0.3):
+            foe.append(("tell", "p", 0))
+            own.append(("hear", "p", "b"))
+        blocks = [(("tell", "q", digit),) for digit in digits] + [(("tell", "q", ("name", "a")),)]
+        own.append(("open", tuple(self.dice.sample(blocks, self.dice.choice([2, 2, 3])))))
+        bad = (("fail",),) if self.often(0.6) else (("home",),)
+        foe += [("hear", "q", "y"), ("if", ("same", ("name", "x"), ("name", "y")), (), bad)]
+        return foe, own, third
+
+    def play(self):
+        parts = [[], [], []]
+        for _ in range(self.dice.choice([1, 2])):
+            for part, statements in zip(parts, self.round()):
+                part += [item for item in statements if self.often(0.97)]
+        if self.often(0.2):
+            parts[1].insert(0, ("open", ((("home",),), (("tell", "s", 1),), ())))
+        blocks = [tuple(part) for part in parts]
+        if self.often(0.4):
+            blocks = [(("repeat", block),) if wrong_at((("repeat", block),)) == "right" else block for block in blocks]
+        foe, own, third = blocks
+        names = {"a": foe, "us": own, "x": third} if third else {"a": foe, "us": own}
+        return names, "us", self.dice.choice([(), ("r",), ("p", "r")])
+
+
+def rounds(many, seed):
+    """Plays of rounds, as triples like those of `plays`; some have many worlds."""
+    maker = Rounds(seed)
+    return [maker.play() for _ in range(many)]

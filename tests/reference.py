@@ -177,11 +177,15 @@ def names_in(thing):
     return names
 
 
-def run(block, held, path=()):
-    """A generator that yields (statement, path) where the routine stands, and is sent what is done there."""
+def run(block, held, done, path=()):
+    """A generator that yields (statement, path) where the routine stands, and is sent what is done there.
+
+    Behind each of these, `done` gathers the paths of the statements.
+    """
     for index, statement in enumerate(block):
         here = path + (index,)
         head = statement[0]
+        done.append(here)
         if head == "set":
             held[statement[1]] = value_of(statement[2], held)
         elif head == "tell":
@@ -192,17 +196,17 @@ def run(block, held, path=()):
             port, digit = yield (statement, here)
             number = [row[0] for row in statement[1]].index(port)
             held[statement[1][number][1]] = digit
-            yield from run(statement[1][number][2], held, here + (number,))
+            yield from run(statement[1][number][2], held, done, here + (number,))
         elif head == "open":
             number = yield (statement, here)
-            yield from run(statement[1][number], held, here + (number,))
+            yield from run(statement[1][number], held, done, here + (number,))
         elif head == "if":
             number = 0 if value_of(statement[1], held) else 1
-            yield from run(statement[2 + number], held, here + (number,))
+            yield from run(statement[2 + number], held, done, here + (number,))
         elif head == "repeat":
             try:
                 while True:
-                    yield from run(statement[1], held, here + (0,))
+                    yield from run(statement[1], held, done, here + (0,))
             except Left:
                 pass
         elif head == "leave":
@@ -211,13 +215,18 @@ def run(block, held, path=()):
             raise Ended(("home",) if head == "home" else ("fail", here))
 
 
-def stand_behind(block, deeds):
-    """(stand, statement) behind some deeds, done one by one from the begin; no statement at home or behind a fail."""
+def stand_behind(block, deeds, done=None):
+    """(stand, statement) behind some deeds, done one by one from the begin; no statement at home or behind a fail.
+
+    A list `done` gets the paths of the statements that were done since the last deed.
+    """
     held = {name: 0 for name in names_in(block)}
-    steps = run(block, held)
+    done = [] if done is None else done
+    steps = run(block, held, done)
     try:
         statement, path = next(steps)
         for deed in deeds:
+            done.clear()
             statement, path = steps.send(deed)
     except StopIteration:
         return ("home",), (None,)

@@ -153,3 +153,4 @@ def endless_play(over=()):
 
 
 ENDLESS = ("tell", "teller", "us", "p")
+HOME_STAND = ("home",)

@@ -7,6 +7,7 @@ from onlyheard.plays import Play
 from onlyheard.routines import Routine
 from onlyheard.stands import begun, choices, heard, picked, tells, told
 from onlyheard.worlds import behind, first_world, led, moves, worlds
+from onlyheard.writing import written
 
 OWN = (("hear", "p", "a"), ("open", ((("tell", "q", 1),), (("tell", "q", ("name", "a")),))))
 
@@ -51,6 +52,20 @@ class Examples(unittest.TestCase):
         for move in run:
             world = behind(play, world, move)
         self.assertEqual(world, led(play, run)[-1])
+
+    def test_written(self):
+        own = Routine(OWN)
+        deaf = Routine((("open", ((("tell", "q", 1),), (("tell", "q", 2),))),))
+        pick = ("open", ((("set", "x", 1),), (("set", "x", 2),)))
+        test = ("if", ("same", ("name", "x"), ("name", "y")), (), (("fail",),))
+        foe = Routine((pick, ("tell", "p", ("name", "x")), ("hear", "q", "y"), test))
+        mute = Routine((pick, ("hear", "q", "y"), test))
+        told = written(Play({"foe": mute, "us": deaf}, "us"), "safe")
+        play = Play({"foe": foe, "us": own}, "us")
+        self.assertEqual(
+            [written(play, 2)[0], written(play, 1)[0], told[0], told[1][0][2][0]],
+            ["plan", "knot", "knot", "open"],
+        )
 
 
 if __name__ == "__main__":
