@@ -37,7 +37,7 @@ class Runs(unittest.TestCase):
     def same_run(self, block, dice):
         routine, held = Routine(block), {name: 0 for name in reference.names_in(block)}
         self.assertEqual(routine.names(), sorted(held))
-        steps = reference.run(block, held)
+        steps = reference.run(block, held, [])
         stand, deed = begun(routine), None
         for _ in range(30):
             try:
