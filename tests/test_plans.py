@@ -227,6 +227,8 @@ class Form(unittest.TestCase):
         for value in wrong:
             for index in (0, 3):
                 self.assertEqual(fault(changed(PLAN, index, 1, value)), ("form", index))
+        for stand in (("at",), ("at", (0,)), ("fail",), ("home",), ("at", (0, 0))):
+            self.assertEqual(fault(changed(PLAN, 0, 1, ((stand, FIRST[1]),))), ("form", 0))
         for value in wrong_values():
             self.assertEqual(fault(changed(PLAN, 0, 1, (FIRST, value))), ("form", 0))
             for place in (0, 1):
@@ -234,6 +236,8 @@ class Form(unittest.TestCase):
                 world[place] = value
                 self.assertEqual(fault(changed(PLAN, 0, 1, (tuple(world),))), ("form", 0))
             for stand in (("at", value, (0, 0)), ("at", (0,), value), ("at", (0,), (0, value)), (value, (0,), (0, 0))):
+                self.assertEqual(fault(changed(PLAN, 0, 1, ((stand, FIRST[1]),))), ("form", 0))
+            for stand in (("at", (0,), (0, 0), value), ("home", value), ("fail", value), ("fail", (3, 1, 0), value)):
                 self.assertEqual(fault(changed(PLAN, 0, 1, ((stand, FIRST[1]),))), ("form", 0))
             if value != "home":
                 self.assertEqual(fault(changed(PLAN, 5, 1, (((value,), HOME_STAND),))), ("form", 5))
