@@ -33,8 +33,8 @@ def is_left(aim, value):
 
 
 def left_behind(left, noted):
-    """How many dealings are left behind a notice."""
-    if left is None or (noted[0] != "told" and noted[0] != "heard"):
+    """How many dealings are left behind a move with this notice, or None."""
+    if left is None or noted is None or (noted[0] != "told" and noted[0] != "heard"):
         return left
     return left - 1
 

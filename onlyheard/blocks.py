@@ -25,7 +25,12 @@ def _is_wrong(item, depth, in_repeat):
         return True
     if item[0] == "leave":
         return not in_repeat
-    return item[0] == "repeat" and _quiet_ways(item[1], depth + 1)[0]
+    return item[0] == "repeat" and not deals(item[1], depth + 1)
+
+
+def deals(block, depth):
+    """Whether no way without dealing goes through a block of a repeat from its begin to its end."""
+    return not _quiet_ways(block, depth)[0]
 
 
 def _is_sound(item, depth):

@@ -19,18 +19,19 @@ class Chart:
         self.worlds = sorted(walked(ways))
         self._numbers = {world: number for number, world in enumerate(self.worlds)}
         self.begin = self._numbers[ways.first()]
-        self.steps = [self._steps(ways.on_from(world)) for world in self.worlds]
+        self.steps = [self._steps_on(ways.on_from(world)) for world in self.worlds]
         self.own = play.routines[play.own]
         place = play.names().index(play.own)
         self.stands = [world[place] for world in self.worlds]
+        self._failed = [has_failed(world) for world in self.worlds]
         self._kept = {}
 
-    def _steps(self, on_from):
+    def _steps_on(self, on_from):
         return [(move, noted, self._numbers[world]) for move, (noted, world) in on_from.items()]
 
     def breaks(self, number, aim, left):
         """Whether a run breaks the aim that comes to this world with so many dealings left."""
-        if has_failed(self.worlds[number]):
+        if self._failed[number]:
             return True
         if aim == "safe":
             return False

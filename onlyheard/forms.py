@@ -134,6 +134,20 @@ def blocks_of(statement):
     return []
 
 
+def with_blocks(statement, blocks):
+    """The statement with other blocks in the places of its own ones; an open line may get fewer."""
+    head = statement[0]
+    if head == "if":
+        return ("if", statement[1], blocks[0], blocks[1])
+    if head == "repeat":
+        return ("repeat", blocks[0])
+    if head == "open":
+        return ("open", tuple(blocks))
+    if head == "wait":
+        return ("wait", tuple([(row[0], row[1], block) for row, block in zip(statement[1], blocks)]))
+    return statement
+
+
 def names_of(statement):
     """The list of the names in a statement itself, not in the blocks in it."""
     head = statement[0]

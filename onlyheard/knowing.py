@@ -4,12 +4,17 @@ from onlyheard.errors import BadFact, BadRun, NoRow
 from onlyheard.forms import head_of, is_digit
 from onlyheard.notices import check_row, reached, row_of
 from onlyheard.stands import HOME, is_stand
-from onlyheard.ways import Ways, steps_of, walked
+from onlyheard.ways import Ways, run_to, steps_of, walked
 
 
 def knows(play, row, fact):
     """Whether a fact is so behind a row: always, never, or behind one run and not behind another one."""
     _check(play, row, fact)
+    return known_behind(play, row, fact)
+
+
+def known_behind(play, row, fact):
+    """The same for a row of any length and a fact of the play; TooMany, NoRow."""
     found = _reached(play, row)
     so = _ends(play, row, fact, found, True)
     not_so = _ends(play, row, fact, found, False)
@@ -17,7 +22,7 @@ def knows(play, row, fact):
         return ("always",)
     if len(so) == 0:
         return ("never",)
-    return ("both", _run_to(found, so[0]), _run_to(found, not_so[0]))
+    return ("both", run_to(found, so[0]), run_to(found, not_so[0]))
 
 
 def knows_fault(play, row, fact, answer):
@@ -75,15 +80,6 @@ def _ends(play, row, fact, found, wanted):
     """The list of the places at the end of the row at which the fact is so, or is not, as wanted."""
     ends = [place for place in found if place[0] == len(row)]
     return [place for place in ends if is_so(play, place[1], fact) == wanted]
-
-
-def _run_to(found, place):
-    """A run that comes to a place."""
-    run = []
-    while found[place] is not None:
-        place, move = found[place]
-        run.append(move)
-    return run[::-1]
 
 
 def _runs_fault(play, row, fact, runs):

@@ -1,8 +1,9 @@
 """What the own routine notices, and which worlds may be behind what it noticed."""
 
+from onlyheard.charts import Chart
 from onlyheard.errors import BadRow
 from onlyheard.forms import head_of, is_digit, is_integer, is_name
-from onlyheard.ways import Ways, check_run, steps_of, walked
+from onlyheard.ways import Ways, check_run, steps_of
 from onlyheard.worlds import way_of
 
 LONGEST_ROW = 60
@@ -22,9 +23,16 @@ def noticed(play, run):
 def may_be(play, row):
     """The ascending list of all worlds at which runs with just this row end."""
     check_row(row)
-    ways = Ways(play)
-    walked(ways)
-    return sorted([world for many, world in reached(ways, row) if many == len(row)])
+    return worlds_behind(play, row)
+
+
+def worlds_behind(play, row):
+    """The same for a row of any length."""
+    chart = Chart(play)
+    numbers = chart.spread([chart.begin])
+    for noted in row:
+        numbers = chart.spreads_behind(numbers).get(noted, ())
+    return list(chart.worlds_of(numbers))
 
 
 def row_of(steps):

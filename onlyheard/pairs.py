@@ -11,11 +11,11 @@ class Pairs:
 
     Attributes: `chart`; `pairs`, the list of the pairs (numbers of the worlds, left), that of the empty
     row first; and by their indexes: `nexts`, the dicts from the notices that can come next to the indexes
-    of the pairs behind, `earlier`, the lists of the pairs ahead, and `stands` of the own routine.
+    of the pairs behind, `earlier`, the lists of the pairs ahead, `stands` of the own routine, and `broken`,
+    whether some run breaks the aim that ends in a world of the pair.
     """
 
     def __init__(self, chart, aim):
-        self._aim = aim
         self.chart = chart
         self.pairs = [(chart.spread([chart.begin]), first_left(aim))]
         self._indexes = {self.pairs[0]: 0}
@@ -24,6 +24,7 @@ class Pairs:
         while len(self.nexts) < len(self.pairs):
             self._go_on(len(self.nexts))
         self.stands = [chart.stands[numbers[0]] for numbers, _ in self.pairs]
+        self.broken = [any([chart.breaks(number, aim, left) for number in numbers]) for numbers, left in self.pairs]
 
     def _go_on(self, index):
         """Lists the pairs that come next behind one; TooMany."""
@@ -47,8 +48,3 @@ class Pairs:
             self.pairs.append(pair)
             self.earlier.append([])
         return self._indexes[pair]
-
-    def breaks(self, index):
-        """Whether some run breaks the aim that ends in a world of a pair."""
-        numbers, left = self.pairs[index]
-        return any([self.chart.breaks(number, self._aim, left) for number in numbers])

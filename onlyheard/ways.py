@@ -106,6 +106,18 @@ def steps_of(ways, run):
     return steps
 
 
+def run_to(found, place):
+    """A run that comes to a place.
+
+    `found` is a dict from places to the pairs of the place ahead and the move from there, None for the first place.
+    """
+    run = []
+    while found[place] is not None:
+        place, move = found[place]
+        run.append(move)
+    return run[::-1]
+
+
 def walked(ways):
     """The list of all worlds that runs come to, in the order of the walk; TooMany."""
     listed = [ways.first()]

@@ -10,15 +10,21 @@ def written(play, aim):
     """A plan that holds for the aim, or a knot that refutes it."""
     check_aim(aim)
     pairs = Pairs(Chart(play), aim)
-    lost = losses(pairs)
+    lost = losses(pairs, [])
     if 0 in lost:
         return ("knot", _knot(pairs, lost))
     return ("plan", _plan(pairs, lost))
 
 
-def losses(pairs):
+def is_planned(chart, aim):
+    """Whether some plan holds for the aim; TooMany."""
+    return 0 not in losses(Pairs(chart, aim), [])
+
+
+def losses(pairs, barred):
     """The dict from the pairs that are lost to why, in the order in which they are found to be lost.
 
+    `barred` is a list of pairs (path, block) of picks that may not be done, but not of all those of a line.
     Why is that of a part of a knot, with pairs in the place of the parts.
     """
     found = {}
@@ -27,22 +33,22 @@ def losses(pairs):
         index = asked.pop()
         if index in found:
             continue
-        why = _why(pairs, index, found)
+        why = _why(pairs, index, found, barred)
         if why is not None:
             found[index] = why
             asked.extend(pairs.earlier[index])
     return found
 
 
-def _why(pairs, index, found):
+def _why(pairs, index, found, barred):
     """Why a pair is lost where some are found to be, None if it is not."""
-    if pairs.breaks(index):
+    if pairs.broken[index]:
         return ("lost",)
     nexts = pairs.nexts[index]
     for noted, after in nexts.items():
         if noted[0] != "pick" and after in found:
             return ("then", noted, after)
-    picks = _picks(pairs, index)
+    picks = [noted for noted in _picks(pairs, index) if (pairs.stands[index][1], noted[1]) not in barred]
     if len(picks) > 0 and all([nexts[noted] in found for noted in picks]):
         return ("open", tuple([nexts[noted] for noted in picks]))
     return None

@@ -152,5 +152,36 @@ def endless_play(over=()):
     return Play({"teller": Routine((("repeat", (("tell", "p", 1),)),)), "us": listener()}, "us", over)
 
 
+DIGIT = ("open", ((("tell", "q", 0),), (("tell", "q", 1),)))
+
+
+def bells(many, own=(("repeat", (("hear", "p", "x"),)),), begin=(), over=("q",)):
+    """A play with `many` sets of worlds that follow one another by what is overheard.
+
+    In each of them the own routine can hear 0, which changes no world; `begin` is done ahead of that.
+    """
+    bell = (*begin, ("repeat", (("tell", "p", 0),)))
+    return Play({"bell": Routine(bell), "us": Routine(own), "teller": counter(many - 1, "q"), "x": listener("q")},
+                "us", over)
+
+
+def powers(many, own=(("hear", "p", "x"),)):
+    """A play whose own routine overhears digits of one that may stop `many` digits behind a 1.
+
+    Which of its counts may go on is told by which of the last digits were 1: there are 2 ** many sets and more.
+    """
+    foe = ("repeat", (("open", (*DIGIT[1], (("tell", "q", 1), *more_digits(many)))),))
+    return Play({"foe": Routine((foe,)), "us": Routine(own), "x": listener("q")}, "us", ("q",))
+
+
+def more_digits(many):
+    """The statements that tell so many more digits and are home then."""
+    if many > 9:
+        return (DIGIT,) * (many - 9) + more_digits(9)
+    ending = ("if", ("same", ("name", "c"), 9), (("leave",),), ())
+    count = ("repeat", (ending, ("set", "c", ("plus", ("name", "c"), 1)), DIGIT))
+    return (("set", "c", 9 - many), count, ("home",))
+
+
 ENDLESS = ("tell", "teller", "us", "p")
 HOME_STAND = ("home",)

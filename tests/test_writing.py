@@ -13,7 +13,7 @@ from onlyheard.routines import Routine
 from onlyheard.worlds import worlds
 from onlyheard.writing import written
 from planned import EXAMPLE, wrong_aims
-from samples import caught, counted, counter, endless_play, example_play, four_play, listener
+from samples import bells, caught, counted, endless_play, example_play, four_play, listener, powers
 
 AIMS = ["safe", "going", 0, 1, 2, 3, 4, 40]
 A = ("name", "a")
@@ -199,16 +199,6 @@ class Written(Checked):
                 self.assertEqual([type(item), len(item)], [tuple, 5 if word == "plan" else 3])
 
 
-def rows_of_bells(many, own=(("repeat", (("hear", "p", "x"),)),), begin=()):
-    """A play with `many` sets of worlds that follow one another by what is overheard.
-
-    In each of them the own routine can hear 0, which changes no world; `begin` is done ahead of that.
-    """
-    bell = (*begin, ("repeat", (tell("p", 0),)))
-    return Play({"bell": Routine(bell), "us": Routine(own), "teller": counter(many - 1, "q"), "x": listener("q")},
-                "us", ("q",))
-
-
 class Bounds(unittest.TestCase):
     def test_bad_aim(self):
         for aim in wrong_aims():
@@ -223,24 +213,24 @@ class Bounds(unittest.TestCase):
 
     def test_2000_pairs_and_2001(self):
         for sets, aim in ((50, 39), (100, 19), (200, 9), (250, 7), (400, 4)):
-            one = rows_of_bells(sets)
+            one = bells(sets)
             self.assertEqual([len(worlds(one)), sets * (aim + 1)], [sets, 2000])
             self.assertEqual(written(one, aim)[0], "knot")
             self.assertEqual(caught(TooMany, written, one, aim + 1), 2000)
         for sets, aim in ((69, 28), (87, 22)):
             self.assertEqual(sets * (aim + 1), 2001)
-            self.assertEqual(caught(TooMany, written, rows_of_bells(sets), aim), 2000)
-            self.assertEqual(written(rows_of_bells(sets - 1), aim)[0], "knot")
+            self.assertEqual(caught(TooMany, written, bells(sets), aim), 2000)
+            self.assertEqual(written(bells(sets - 1), aim)[0], "knot")
 
     def test_pairs_behind_sets_that_are_lost(self):
         # "bell" may fail ahead of all else, so that every set is lost from the begin on.
         begin = (line((("fail",),), ()),)
         for sets, aim in ((50, 39), (100, 19)):
-            one = rows_of_bells(sets, begin=begin)
+            one = bells(sets, begin=begin)
             self.assertEqual(written(one, aim)[0], "knot")
             self.assertEqual(len(written(one, aim)[1]), 1)
             self.assertEqual(caught(TooMany, written, one, aim + 1), 2000)
-        self.assertEqual(caught(TooMany, written, rows_of_bells(69, begin=begin), 28), 2000)
+        self.assertEqual(caught(TooMany, written, bells(69, begin=begin), 28), 2000)
 
     def test_not_behind_rows_with_n_dealings(self):
         # Behind the last dealing it would overhear all the bells, in 1024 sets and more.
@@ -259,24 +249,6 @@ class Bounds(unittest.TestCase):
         self.assertLess(len(worlds(one)), 100)
         self.assertGreater(len(written(one, "safe")[1]), 1000)
         self.assertIsNone(plan_fault(one, "safe", written(one, "safe")[1]))
-
-
-def powers(many, own=(("hear", "p", "x"),)):
-    """A play whose own routine overhears digits of one that may stop `many` digits behind a 1.
-
-    Which of its counts may go on is told by which of the last digits were 1: there are 2 ** many sets and more.
-    """
-    foe = ("repeat", (line((tell("q", 0),), (tell("q", 1),), (tell("q", 1), *more_digits(many))),))
-    return Play({"foe": Routine((foe,)), "us": Routine(own), "x": listener("q")}, "us", ("q",))
-
-
-def more_digits(many):
-    """The statements that tell so many more digits and are home then."""
-    if many > 9:
-        return (telling("q", 0, 1),) * (many - 9) + more_digits(9)
-    ending = ("if", ("same", ("name", "c"), 9), (("leave",),), ())
-    count = ("repeat", (ending, ("set", "c", ("plus", ("name", "c"), 1)), telling("q", 0, 1)))
-    return (("set", "c", 9 - many), count, ("home",))
 
 
 class Again(unittest.TestCase):
