@@ -6,6 +6,7 @@ from onlyheard.errors import BadRoutine
 from onlyheard.plays import Play
 from onlyheard.routines import Routine
 from onlyheard.stands import begun, choices, heard, picked, tells, told
+from onlyheard.texts import read_routine, routine_text
 from onlyheard.worlds import behind, first_world, led, moves, worlds
 from onlyheard.writing import written
 
@@ -65,6 +66,13 @@ class Examples(unittest.TestCase):
         self.assertEqual(
             [written(play, 2)[0], written(play, 1)[0], told[0], told[1][0][2][0]],
             ["plan", "knot", "knot", "open"],
+        )
+
+    def test_texts(self):
+        own = Routine((("hear", "p", "a"), ("open", ((("tell", "q", 1),), (("tell", "q", ("plus", ("name", "a"), 2)),)))))
+        self.assertEqual(
+            [routine_text(own), read_routine(routine_text(own)) == own],
+            ["hear p a\nopen\n  tell q 1\nor\n  tell q (a plus 2)\nend", True],
         )
 
 
