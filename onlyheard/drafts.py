@@ -59,7 +59,8 @@ class Draft:
         spaces = len(line) - len(text)
         depth = len(self._frames)
         if text.partition(" ")[0] in ("on", "or", "else", "end"):
-            return depth > 1 and spaces == 2 * (depth - 2) and self._goes_on(text)
+            # In the top block there is no such number of spaces.
+            return spaces == 2 * (depth - 2) and self._goes_on(text)
         return spaces == 2 * (depth - 1) and self._begins(text)
 
     def is_whole(self):

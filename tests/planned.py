@@ -52,7 +52,8 @@ def wrong_but(*right):
 
 
 def wrong_aims():
-    return wrong_but(10) + ["Safe", "safe ", "lost", "aim", "0", "1", -1, 41, 100, ("safe",), ["going"], (1,), [1], {1: 1}]
+    return wrong_but(10) + ["Safe", "safe ", "lost", "aim", "0", "1", -1, 41, 100, ("safe",), ["going"], (1,), [1],
+        {1: 1}]
 
 
 EXAMPLE = example_play()

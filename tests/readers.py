@@ -6,7 +6,8 @@ from reference import comes_to_end, depth_of
 from samples import KEPT_WORDS
 
 NAME = "(?!(?:" + "|".join(KEPT_WORDS) + r")\b)[a-z]{1,8}"
-HEADS = {"set": rf"set ({NAME}) (.*)", "tell": rf"tell ({NAME}) (.*)", "if": "if (.*)", "hear": rf"hear ({NAME}) ({NAME})"}
+HEADS = {"set": rf"set ({NAME}) (.*)", "tell": rf"tell ({NAME}) (.*)", "if": "if (.*)",
+    "hear": rf"hear ({NAME}) ({NAME})"}
 ROW = rf"on ({NAME}) ({NAME})"
 
 

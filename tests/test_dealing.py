@@ -118,7 +118,8 @@ class Dealing(unittest.TestCase):
 
 class DealingOfWrongItems(unittest.TestCase):
     wrong = (
-        None, True, 1, "set", (), [], ("set",), ("set", "a", True), ("set", "a", 10), ("set", "set", 1), ["set", "a", 1],
+        None, True, 1, "set", (), [], ("set",), ("set", "a", True), ("set", "a", 10), ("set", "set", 1),
+        ["set", "a", 1],
         ("leave", 1), ("home", ()), ("if", 1, ()), ("if", 1, (), []), ("if", True, (), ()), ("open", ()),
         ("open", ((),) * 5), ("repeat", ((),) * 13), ("repeat", [LEAVE]), ("wait", ()), ("plus", 1, 2),
     )

@@ -69,7 +69,8 @@ class Examples(unittest.TestCase):
         )
 
     def test_texts(self):
-        own = Routine((("hear", "p", "a"), ("open", ((("tell", "q", 1),), (("tell", "q", ("plus", ("name", "a"), 2)),)))))
+        own = Routine((("hear", "p", "a"), ("open", ((("tell", "q", 1),),
+            (("tell", "q", ("plus", ("name", "a"), 2)),)))))
         self.assertEqual(
             [routine_text(own), read_routine(routine_text(own)) == own],
             ["hear p a\nopen\n  tell q 1\nor\n  tell q (a plus 2)\nend", True],

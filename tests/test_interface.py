@@ -12,7 +12,6 @@ from onlyheard.knots import knot_fault
 from onlyheard.overhearing import least_deaf, least_over
 from onlyheard.picks import alone, breaking, fixed, fixed_play, least_home, needed, struck
 from onlyheard.plans import plan_fault
-from onlyheard.plays import Play
 from onlyheard.rewriting import as_routine, in_turn
 from onlyheard.routines import Routine
 from onlyheard.sittings import Sitting, tried
@@ -24,7 +23,8 @@ from samples import ERROR_NAMES, example_play
 
 PACKAGE = pathlib.Path(__file__).resolve().parent.parent / "onlyheard"
 FUNCTIONS = {
-    "stands": ["begun(routine)", "picked(routine, stand, k)", "told(routine, stand)", "heard(routine, stand, port, digit)",
+    "stands": ["begun(routine)", "picked(routine, stand, k)", "told(routine, stand)",
+               "heard(routine, stand, port, digit)",
                "tells(routine, stand)", "listens(routine, stand)", "choices(routine, stand)"],
     "worlds": ["first_world(play)", "moves(play, world)", "behind(play, world, move)", "is_failed(play, world)",
                "is_stuck(play, world)", "led(play, run)", "worlds(play)"],
@@ -45,7 +45,8 @@ CLASSES = {
                               "statement(self, path)", "__eq__(self, other)"],
     ("plays", "Play"): ["__init__(self, routines, own, over=())", "names(self)", "ports(self)", "with_over(self, over)",
                         "with_own(self, routine)", "__eq__(self, other)"],
-    ("sittings", "Sitting"): ["__init__(self, play, plan=None)", "moves(self)", "do(self, move)", "back(self)", "may_be(self)",
+    ("sittings", "Sitting"): ["__init__(self, play, plan=None)", "moves(self)", "do(self, move)", "back(self)",
+                              "may_be(self)",
                               "knows(self, fact)", "trial(self, run)", "__iadd__(self, run)", "__len__(self)",
                               "__contains__(self, fact)", "__enter__(self)", "__exit__(self, kind, error, trace)"],
 }
@@ -112,7 +113,8 @@ class Interface(unittest.TestCase):
 
 class Unchanged(unittest.TestCase):
     def test_nothing_that_was_passed_changes(self):
-        play, plan, knot, run, names, picks = example_play(), example_plan(), example_knot(), list(RUN), ["us"], {(1,): 1}
+        play, plan, knot = example_play(), example_plan(), example_knot()
+        run, names, picks = list(RUN), ["us"], {(1,): 1}
         before = copy.deepcopy([plan, knot, run, names, picks])
         calls = [
             lambda: plan_fault(play, "safe", plan), lambda: knot_fault(play, 1, knot), lambda: as_routine(play, plan),

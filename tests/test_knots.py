@@ -79,7 +79,8 @@ class Refutes(unittest.TestCase):
         self.assertEqual(knot_fault(play, "safe", [((home,), None, LOST)]), ("lost", 0))
 
     def test_stuck_is_lost_for_going_and_numbers(self):
-        play = Play({"foe": Routine((("open", ((), (("tell", "p", 1),))),)), "us": Routine((("hear", "p", "a"),))}, "us")
+        play = Play({"foe": Routine((("open", ((), (("tell", "p", 1),))),)), "us": Routine((("hear", "p", "a"),))},
+            "us")
         first = worlds(play)[0]
         for aim, left in (("going", None), (1, 1), (40, 40)):
             self.assertIsNone(knot_fault(play, aim, [((first,), left, LOST)]))
@@ -187,13 +188,15 @@ class Form(unittest.TestCase):
 
     def test_why(self):
         wrong = wrong_values() + [
-            "lost", ["lost"], ("lost", 1), ("lost", ()), ("Lost",), ("open",), ("open", [2, 3]), ("open", 2), ("open", 2, 3),
+            "lost", ["lost"], ("lost", 1), ("lost", ()), ("Lost",), ("open",), ("open", [2, 3]), ("open", 2),
+            ("open", 2, 3),
             ("open", (2, 3), ()), ("then",), ("then", ("heard", "p", 2)), ("then", ("heard", "p", 2), 1, 1),
             ("then", 1, ("heard", "p", 2)), ["then", ("heard", "p", 2), 1], ("then", (("heard", "p", 2),), 1),
             ("then", ["heard", "p", 2], 1), ("then", "told", 1), None, ("heard", ("then", "p", 2), 1),
         ]
         wrong += [("then", ("pick", k), 1) for k in (0, 1, 2)]
-        for noted in (("heard", "p"), ("told", "p", 1), ("over", "p", 10), ("told",), ("heard", "on", 1), ("told", "P")):
+        for noted in (("heard", "p"), ("told", "p", 1), ("over", "p", 10), ("told",), ("heard", "on", 1),
+                ("told", "P")):
             wrong.append(("then", noted, 1))
         for value in wrong:
             for index in (0, 1, 3):

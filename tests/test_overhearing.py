@@ -53,12 +53,14 @@ class Least(unittest.TestCase):
 
     def test_both_of_two_ports(self):
         # What is told at r and at s together makes the digit.
-        sums = ("open", ((("tell", "s", 1), ("tell", "r", ("minus", X, 1))), (("tell", "s", 2), ("tell", "r", ("minus", X, 2)))))
+        sums = ("open", ((("tell", "s", 1), ("tell", "r", ("minus", X, 1))),
+            (("tell", "s", 2), ("tell", "r", ("minus", X, 2)))))
         play = asked(sums, third=hears("s", "r"))
         self.both(play, "safe", [("r", "s")], [("r",), ("s",)])
 
     def test_one_port_or_two_others(self):
-        sums = ("open", ((("tell", "s", 1), ("tell", "r", ("minus", X, 1))), (("tell", "s", 2), ("tell", "r", ("minus", X, 2)))))
+        sums = ("open", ((("tell", "s", 1), ("tell", "r", ("minus", X, 1))),
+            (("tell", "s", 2), ("tell", "r", ("minus", X, 2)))))
         play = asked(("tell", "b", X), sums, third=hears("b", "s", "r"))
         self.both(play, "safe", [("b",), ("r", "s")], [("b", "r"), ("b", "s")])
 

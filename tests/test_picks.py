@@ -11,7 +11,9 @@ from onlyheard.routines import Routine
 from onlyheard.worlds import is_failed, is_stuck, led
 from onlyheard.writing import written
 from planned import EXAMPLE, wrong_aims, wrong_but
-from samples import bells, caught, counted, counter, endless_play, example_play, four_play, listener, picker, wrong_values
+from samples import (
+    bells, caught, counted, counter, endless_play, example_play, four_play, listener, picker, wrong_values,
+)
 
 FAIL = ("fail",)
 AIMS = ("safe", "going", 0, 1, 2, 3, 40)
@@ -217,6 +219,16 @@ class Fixed(unittest.TestCase):
         fewer = {**many, "us": Routine((("hear", "p", "x"), *lines[:4]))}
         self.assertEqual(caught(TooMany, fixed, Play(fewer, "us"), "safe"), 400)
 
+    def test_400_pairs_with_all_picks(self):
+        # With either pick alone there would be no more than 400 pairs.
+        one = bells(100, (line((("repeat", (("hear", "p", "x"),)),), ()),), over=())
+        for call in (breaking, fixed):
+            self.assertEqual(caught(TooMany, call, one, 2), 400)
+        for k in (0, 1):
+            picked = fixed_play(one, {(0,): k})
+            self.assertEqual(fixed(picked, 2), None if k == 0 else {(0,): 0})
+        self.assertEqual(fixed(bells(70, one.routines["us"].block, over=()), 2), {(0,): 1})
+
     def test_very_many_lines(self):
         self.assertEqual(fixed(play(picker(22).block, foe=()), "safe"), {path: 0 for path in picker(22).open_lines()})
         leaf = (line((), (), (), ()),) * 12
@@ -346,7 +358,8 @@ class Struck(unittest.TestCase):
 
     def test_lines_within_one_another(self):
         for path, k, block in (
-            ((0,), 0, (line((("set", "a", 1),), (INNER, FAIL)), LINES[1])), ((0,), 1, (line((INNER,), (INNER, FAIL)), LINES[1])),
+            ((0,), 0, (line((("set", "a", 1),), (INNER, FAIL)), LINES[1])),
+            ((0,), 1, (line((INNER,), (INNER, FAIL)), LINES[1])),
             ((0, 0, 0), 0, (line((line(()),), (("set", "a", 1),), (INNER, FAIL)), LINES[1])),
             ((0, 2, 0), 1, (line((INNER,), (("set", "a", 1),), (line((FAIL,)), FAIL)), LINES[1])),
             ((1,), 1, (LINES[0], line(()))),
@@ -354,7 +367,8 @@ class Struck(unittest.TestCase):
             self.assertEqual(struck(NESTED, path, k), NESTED.with_own(Routine(block)))
 
     def test_no_path(self):
-        for path in wrong_values() + [(0, 0), (0, 1, 0), (2,), (0, 0, 0, 0, 0), (False,), (True,), (0, False, 0), [0], 0, (-1,)]:
+        for path in wrong_values() + [(0, 0), (0, 1, 0), (2,), (0, 0, 0, 0, 0), (False,), (True,), (0, False, 0), [0],
+                0, (-1,)]:
             for k in (0, 7, None):
                 self.assertIs(caught(NoPath, struck, NESTED, path, k), path)
         self.assertIsNone(caught(NoPath, struck, play=NESTED, path=None, k=0))

@@ -13,7 +13,7 @@ from planned import (
     ALSO_1, BAD_2, ENDED, EXAMPLE, FAILED, FIRST, GOOD_1, GOOD_2, HEAR, HEARD_1, HEARD_2, HOME_STAND, PICK_1, PICK_2,
     PICKED_1, PICKED_2, SILENT, TELL, WORLDS, changed, example_plan, wrong_aims, wrong_but,
 )
-from samples import caught, counted, counter, endless_play, example_play, listener, wrong_values
+from samples import caught, counted, endless_play, example_play, listener, wrong_values
 
 PLAN = example_plan()
 EMPTY = (HOME_STAND, (), None, None, {})
@@ -153,9 +153,8 @@ class Aims(unittest.TestCase):
     def test_out_of_dealings_at_a_tell_a_hear_and_a_wait(self):
         others = {"a": Routine((("repeat", (("tell", "p", 1),)),)), "b": listener("q")}
         wait = ("wait", (("p", "x", ()),))
-        for own, values, noted in (
-            (("tell", "q", 2), (), ("told", "q")), (("hear", "p", "x"), (0,), ("heard", "p", 1)),
-            (wait, (0,), ("heard", "p", 1)),
+        for own, noted in (
+            (("tell", "q", 2), ("told", "q")), (("hear", "p", "x"), ("heard", "p", 1)), (wait, ("heard", "p", 1)),
         ):
             play = Play({**others, "us": Routine((own,))}, "us")
             first = worlds(play)[0]
@@ -320,7 +319,8 @@ class Faults(unittest.TestCase):
         self.assertEqual(fault(changed(wrong, 5, 1, (FAILED, ENDED))), ("lost", 5, FAILED))
 
     def test_stuck_is_lost_for_going_and_numbers(self):
-        play = Play({"foe": Routine((("open", ((("tell", "p", 1),), ())),)), "us": Routine((("hear", "p", "a"),))}, "us")
+        play = Play({"foe": Routine((("open", ((("tell", "p", 1),), ())),)), "us": Routine((("hear", "p", "a"),))},
+            "us")
         first, tells, stuck, end = sorted(worlds(play), key=worlds(play).index)
         nexts = {("heard", "p", 1): 1}
         some = tuple(sorted([first, tells, stuck]))
@@ -414,7 +414,8 @@ class Bounds(unittest.TestCase):
         plan = [(first[1], (first,), None, None, nexts), (second[1], (second,), None, None, nexts)]
         self.assertIsNone(plan_fault(play, "going", plan))
         many = 40
-        counts = [(plan[min(k, 1)][:2] + (many - k, None, {("heard", "p", 1): min(k + 1, many)})) for k in range(many + 1)]
+        counts = [plan[min(k, 1)][:2] + (many - k, None, {("heard", "p", 1): min(k + 1,
+            many)}) for k in range(many + 1)]
         self.assertEqual(plan_fault(play, many, counts), ("left", 40))
 
 

@@ -57,7 +57,8 @@ class Wronger:
         plan = [state[:4] + (dict(state[4]),) for state in plan]
         for _ in range(self.dice.choice([0, 1, 1, 2])):
             index = self.dice.randrange(len(plan))
-            kind = self.dice.choice(["worlds", "worlds", "left", "pick", "key", "number", "copy", "stand", "empty", "bad"])
+            kind = self.dice.choice(["worlds", "worlds", "left", "pick", "key", "number", "copy", "stand", "empty",
+                "bad"])
             stand, some, left, pick, nexts = plan[index]
             if kind == "worlds":
                 put(plan, index, 1, self.some(some, 0))

@@ -11,7 +11,8 @@ from onlyheard.routines import Routine
 from onlyheard.texts import play_text, read_play, read_routine, routine_text
 from samples import KEPT_WORDS, wrong_at
 
-TOKENS = [*KEPT_WORDS, "a", "b", "p", "q", "us", "r", "1", "0", "9", "10", "(", ")", "(not", "(a", "(a plus 1)", "a)", "on p a"]
+TOKENS = [*KEPT_WORDS, "a", "b", "p", "q", "us", "r", "1", "0", "9", "10", "(", ")", "(not", "(a", "(a plus 1)", "a)",
+    "on p a"]
 
 
 def answer(read, text):
@@ -31,7 +32,8 @@ class Spoiler:
         rows = text.split("\n")
         for _ in range(self.dice.choice([0, 1, 1, 2])):
             index = self.dice.randrange(len(rows))
-            kind = self.dice.choice(["drop", "twice", "swap", "in", "out", "word", "word", "cut", "line", "blank", "tail", "empty"])
+            kind = self.dice.choice(["drop", "twice", "swap", "in", "out", "word", "word", "cut", "line", "blank",
+                "tail", "empty"])
             if kind == "drop" and len(rows) > 1:
                 del rows[index]
             elif kind == "twice":

@@ -16,7 +16,7 @@ from onlyheard.worlds import first_world, worlds
 from onlyheard.writing import written
 from planned import ENDED, EXAMPLE, FAILED, FIRST, HOME_STAND, changed, example_plan, wrong_aims
 from reference import Game
-from samples import caught, counted, counter, endless_play, example_play, listener, wrong_values
+from samples import caught, counted, endless_play, example_play, listener, wrong_values
 
 PLAN = example_plan()
 EMPTY = (HOME_STAND, (), None, None, {})
@@ -41,7 +41,8 @@ class Checked(unittest.TestCase):
         known = Game(blocks_of(play), play.own).walk(400)
         there = blocks_of(play.with_own(routine))
         alone = Game(there, play.own).walk(10 ** 5)
-        self.assertTrue(deals_alike(Planned(blocks_of(play), play.own, known, plan), Alone(there, play.own, alone, None)))
+        self.assertTrue(deals_alike(Planned(blocks_of(play), play.own, known, plan),
+            Alone(there, play.own, alone, None)))
         self.assertLessEqual(longest_way(routine.block, (0, 1, 2, 9)), 4000)
         return routine
 
@@ -144,7 +145,8 @@ class AsRoutine(Checked):
     def test_states_with_more_worlds_than_can_be(self):
         plan = changed(PLAN, 5, 1, (ENDED,)) + [(HOME_STAND, (), None, None, {})]
         self.check(EXAMPLE, plan)
-        bigger = Play({"foe": Routine((("open", ((), ())), ("tell", "p", 1))), "us": Routine((("hear", "p", "a"),))}, "us")
+        bigger = Play({"foe": Routine((("open", ((), ())), ("tell", "p", 1))), "us": Routine((("hear", "p", "a"),))},
+            "us")
         word, plan = written(bigger, "safe")
         self.assertEqual(word, "plan")
         self.check(bigger, plan)
@@ -184,7 +186,8 @@ class AsRoutine(Checked):
 class PlanErrors(unittest.TestCase):
     def test_bad_plan(self):
         wrong = wrong_values() + [
-            tuple(PLAN), PLAN[1:], PLAN[:5], changed(PLAN, 0, 2, 2), changed(example_plan(2), 0, 2, 3), PLAN[0], PLAN * 400,
+            tuple(PLAN), PLAN[1:], PLAN[:5], changed(PLAN, 0, 2, 2), changed(example_plan(2), 0, 2, 3), PLAN[0],
+            PLAN * 400,
             changed(example_plan(2), 0, 2, 1), example_plan(2)[:5], changed(PLAN, 5, 1, (FAILED,)), [EMPTY], [[]],
             changed(example_plan(3), 0, 2, True), changed(PLAN, 0, 2, "safe"), changed(PLAN, 0, 2, "going"),
             [PLAN[0][:4]] + PLAN[1:], [PLAN[0][:3]] + PLAN[1:], [list(PLAN[0])] + PLAN[1:],
@@ -216,7 +219,8 @@ class PlanErrors(unittest.TestCase):
                      [(None, None, None, None, None)], [(None, None, 0, None, None)]):
             self.assertEqual(caught(TooMany, as_routine, counted(400), plan), 400)
             self.assertIs(caught(BadPlan, as_routine, counted(399), plan), plan)
-        for plan in ([], None, [None], tuple(PLAN), {}, [(None, None, 41, None, None)], [(None, None, True, None, None)],
+        for plan in ([], None, [None], tuple(PLAN), {}, [(None, None, 41, None, None)],
+            [(None, None, True, None, None)],
                      [(None, None, "safe", None, None)], [(None, None, -1, None, None)], [(None,) * 4], [(None,) * 6],
                      [[None] * 5]):
             self.assertIs(caught(BadPlan, as_routine, counted(400), plan), plan)
@@ -300,7 +304,8 @@ class InTurn(Checked):
     def test_nothing_is_overheard(self):
         # With "r" overheard there would be a plan for "us".
         foe = (PICK_X, ("tell", "r", X), ("tell", "p", 0), ("hear", "q", "y"), SAME)
-        routines = {"foe": Routine(foe), "us": Routine((("hear", "p", "a"), TELLING)), "x": Routine((("hear", "r", "z"),))}
+        routines = {"foe": Routine(foe), "us": Routine((("hear", "p", "a"), TELLING)),
+            "x": Routine((("hear", "r", "z"),))}
         play = Play(routines, "us", ("r",))
         self.assertEqual(written(play, "safe")[0], "plan")
         word, name, turn, _ = in_turn(play, ["us"], "safe")
@@ -312,7 +317,8 @@ class InTurn(Checked):
 
     def test_bad_names(self):
         wrong = wrong_values() + [
-            ("one",), ("one", "other"), (), ["one", "one"], ["one", "other", "one"], ["two"], ["one", "two"], "one", None,
+            ("one",), ("one", "other"), (), ["one", "one"], ["one", "other", "one"], ["two"], ["one", "two"], "one",
+            None,
             ["One"], [["one"]], [("one",)], {"one": 1}, [None], ["one", None], [True], ["other", 0], ["p"], [ONE], [""],
             ["other", "other"],
         ]
@@ -337,7 +343,8 @@ class InTurn(Checked):
             self.assertEqual(in_turn(counted(400), [], aim)[0], "done")
         self.assertEqual(caught(TooMany, in_turn, counted(40), ["us"], "safe"), 40)
         self.assertEqual(in_turn(counted(39), ["us"], "safe")[0], "done")
-        bells = {"bell": Routine((("repeat", (("tell", "p", 0),)),)), "us": Routine((("repeat", (("hear", "p", "x"),)),))}
+        bells = {"bell": Routine((("repeat", (("tell", "p", 0),)),)), "us": Routine((("repeat", (("hear", "p", "x"),)),
+            ))}
         self.assertEqual(in_turn(Play(bells, "bell"), ["us", "bell"], "going")[0], "done")
 
     def test_what_was_passed_stays_as_it_was(self):

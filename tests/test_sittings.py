@@ -93,7 +93,8 @@ class Steps(Told):
             self.assertEqual(sitting.trial(RUN), NOTICES)
         foe = (("open", ((("tell", "r", 1),), (("tell", "r", 2),))), ("tell", "p", 0))
         line = ("open", ((), (("tell", "q", 1),)))
-        play = Play({"foe": Routine(foe), "us": Routine((("hear", "p", "a"), line)), "x": Routine((("hear", "r", "z"),))},
+        play = Play({"foe": Routine(foe), "us": Routine((("hear", "p", "a"), line)),
+            "x": Routine((("hear", "r", "z"),))},
                     "us", ("r",))
         sitting = Sitting(play, written(play, 1)[1])
         run = [("pick", "foe", 1), ("tell", "foe", "x", "r"), ("tell", "foe", "us", "p"), ("pick", "us", 0)]
@@ -111,7 +112,8 @@ class Steps(Told):
         self.assertIs(module.Sitting, Sitting)
 
     def test_methods_stand_in_the_class(self):
-        for name in ("moves", "do", "back", "may_be", "knows", "trial", "__iadd__", "__len__", "__contains__", "__enter__",
+        for name in ("moves", "do", "back", "may_be", "knows", "trial", "__iadd__", "__len__", "__contains__",
+            "__enter__",
                      "__exit__", "__init__"):
             self.assertIn(name, vars(Sitting))
 
@@ -204,7 +206,9 @@ class Knows(Told):
         if fact[0] == "home":
             return stand == HOME_STAND
         names = {"foe": ["x", "y"], "us": ["a"]}[fact[1]]
-        return stand[0] == "at" and (stand[1] == fact[2] if fact[0] == "stands" else stand[2][names.index(fact[2])] == fact[3])
+        if stand[0] != "at" or fact[0] == "stands":
+            return stand[1:2] == fact[2:]
+        return stand[2][names.index(fact[2])] == fact[3]
 
     def test_what_is_returned_may_be_changed(self):
         sitting = Sitting(EXAMPLE, PLAN)
@@ -266,8 +270,10 @@ class Knows(Told):
     def test_wrong_values_within_facts(self):
         sitting = Sitting(EXAMPLE)
         for value in wrong_values():
-            for fact in (("value", "foe", "x", value), ("value", "foe", value, 0), ("value", value, "x", 0), (value, "us"),
-                         ("stands", "foe", value), ("stands", "foe", (value,)), ("home", value), (value, "foe", "x", 0)):
+            for fact in (("value", "foe", "x", value), ("value", "foe", value, 0), ("value", value, "x", 0),
+                (value, "us"),
+                         ("stands", "foe", value), ("stands", "foe", (value,)), ("home", value),
+                         (value, "foe", "x", 0)):
                 if value != "home":
                     self.assertIs(caught(BadFact, sitting.knows, fact), fact)
                     self.assertIs(fact in sitting, False)
@@ -318,7 +324,8 @@ class Trials(Told):
                     self.assertEqual(repr(caught(BadRun, call, run)), repr(index))
                 if index == -1:
                     self.assertEqual(caught(BadRun, tried, sitting, run), -1)
-            for move in WRONG_MOVES[:1] + WRONG_MOVES[2:5] + WRONG_MOVES[6:] + [RUN[1], OTHER_PICK, ("pick", "us", True)]:
+            for move in WRONG_MOVES[:1] + WRONG_MOVES[2:5] + WRONG_MOVES[6:] + [RUN[1], OTHER_PICK,
+                    ("pick", "us", True)]:
                 for ahead in range(4):
                     run = RUN[1:1 + ahead] + [move, None]
                     if ahead == 0 and move == RUN[1] or plan is None and ahead == 1 and move == OTHER_PICK:
@@ -492,7 +499,7 @@ class Tried(Told):
             sitting.do(RUN[0])
             before = told(sitting)
             for ahead in range(4):
-                for move in [None, ("pick", "foe", True), RUN[0], ()] + [value for value in wrong_values() if value != []]:
+                for move in [None, ("pick", "foe", True), RUN[0], (), *wrong_values()]:
                     run = RUN[1:1 + ahead] + [move, 1]
                     self.assertIs(caught(NoMove, tried, sitting, run), move)
             self.assertEqual(told(sitting), before)

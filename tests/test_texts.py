@@ -19,28 +19,53 @@ STATEMENTS = [
      ("wait", (("q", "b", (("home",),)), ("p", "a", (("hear", "p", "a"), ("fail",)))))),
     ("open\nend", ("open", ((),))), ("open\nor\nend", ("open", ((), ()))),
     ("open\n  home\nor\nor\n  fail\n  fail\nend", ("open", ((("home",),), (), (("fail",), ("fail",))))),
-    ("if 1\nelse\nend", ("if", 1, (), ())), ("if (not a)\n  home\nelse\n  fail\nend", ("if", ("not", A), (("home",),), (("fail",),))),
+    ("if 1\nelse\nend", ("if", 1, (), ())), ("if (not a)\n  home\nelse\n  fail\nend",
+                                             ("if", ("not", A), (("home",),), (("fail",),))),
     ("repeat\n  hear p a\nend", ("repeat", (("hear", "p", "a"),))),
     ("repeat\n  if a\n    leave\n  else\n    tell p a\n  end\nend",
      ("repeat", (("if", A, (("leave",),), (("tell", "p", A),)),))),
 ]
 EXPRESSIONS = [
     ("0", 0), ("9", 9), ("a", A), ("(1 plus 2)", ("plus", 1, 2)), ("(a minus b)", ("minus", A, ("name", "b"))),
-    ("(0 same a)", ("same", 0, A)), ("(a less 0)", ("less", A, 0)), ("(not a)", ("not", A)), ("(not (not 0))", ("not", ("not", 0))),
+    ("(0 same a)", ("same", 0, A)), ("(a less 0)", ("less", A, 0)), ("(not a)", ("not", A)),
+    ("(not (not 0))", ("not", ("not", 0))),
     ("((a plus 1) less (not (2 same 3)))", ("less", ("plus", A, 1), ("not", ("same", 2, 3)))),
     ("((((1 plus 2) plus 3) plus 4) plus 5)", ("plus", ("plus", ("plus", ("plus", 1, 2), 3), 4), 5)),
     ("(not (not (not (not a))))", ("not", ("not", ("not", ("not", A))))),
 ]
 WRONG_EXPRESSIONS = [
-    "", "10", "-1", "A", "a b", "1 2", "plus", "not", "(a)", "(1)", "()", "(a plus)", "(plus a)", "(a plus b", "a plus b",
-    "a plus b)", "(a plus b))", "((a plus b)", "(a plus b) ", " (a plus b)", "( a plus b)", "(a plus b )", "(a  plus b)",
-    "(a plus  b)", "(a plusb)", "(aplus b)", "(a plus b c)", "(a and b)", "(a same)", "(not)", "(not a b)", "not a", "(nota)",
-    "(not (a))", "(not(a plus b))", "((a plus b)plus c)", "(a plus(b plus c))", "(a plus (not b)", "(a PLUS b)", "(1 plus 10)",
-    "(if plus 1)", "(a or b)", "a)", "(a", ")", "(", "((", "(((((((((", "(" * 100000, "(not " * 100000, ")(", "(a plus b)(",
-    "(not (not (not (not (not a)))))", "(((((1 plus 2) plus 3) plus 4) plus 5) plus 6)", "(1 plus (not (not (not (not 2)))))",
-    "abcdefghi", "a.", "(a plus 1).", "[a plus b]", "(a plus b) c", "home", "0x1", "_", "1.", "~", "(a minus plus)",
+    "", "10", "-1", "A", "a b", "1 2", "plus", "not", "(a)", "(1)", "()", "(a plus)", "(plus a)", "(a plus b",
+    "a plus b",
+    "a plus b)", "(a plus b))", "((a plus b)", "(a plus b) ", " (a plus b)", "( a plus b)", "(a plus b )",
+    "(a  plus b)",
+    "(a plus  b)", "(a plusb)", "(aplus b)", "(a plus b c)", "(a and b)", "(a same)", "(not)", "(not a b)", "not a",
+    "(nota)",
+    "(not (a))", "(not(a plus b))", "((a plus b)plus c)", "(a plus(b plus c))", "(a plus (not b)", "(a PLUS b)",
+    "(1 plus 10)",
+    "(if plus 1)", "(a or b)", "a)", "(a", ")", "(", "((", "(((((((((", "(" * 100000, "(not " * 100000, ")(",
+    "(a plus b)(",
+    "(not (not (not (not (not a)))))", "(((((1 plus 2) plus 3) plus 4) plus 5) plus 6)",
+    "(1 plus (not (not (not (not 2)))))",
+    "(a plus", "(not", "(not (not", "(a plus (b same", "(a", "((a plus b) less", "A a plus b)", "10 a plus b)",
+    "x a plus b)",
+    "not a)", "abcdefghi", "a.", "(a plus 1).", "[a plus b]", "(a plus b) c", "home", "0x1", "_", "1.", "~",
+    "(a minus plus)",
 ]
 OPENERS = ["open", "repeat", "if 1"]
+LONG = """open
+  if 1
+    home
+  else
+    wait
+    on p a
+      fail
+    end
+  end
+or
+  repeat
+    home
+  end
+end"""
 
 
 def wrong_line(text):
@@ -78,7 +103,8 @@ class Texts(unittest.TestCase):
                  lambda s: ("wait", (("q", "b", ()), ("p", "a", (s,)), ("r", "c", ())))),
                 ("open\n", "\nor\nend", lambda s: ("open", ((s,), ()))),
                 ("open\nor\n", "\nor\n  home\nend", lambda s: ("open", ((), (s,), (("home",),)))),
-                ("if a\n", "\nelse\nend", lambda s: ("if", A, (s,), ())), ("if a\nelse\n", "\nend", lambda s: ("if", A, (), (s,))),
+                ("if a\n", "\nelse\nend", lambda s: ("if", A, (s,), ())),
+                ("if a\nelse\n", "\nend", lambda s: ("if", A, (), (s,))),
                 ("repeat\n  hear z z\n", "\nend", lambda s: ("repeat", (("hear", "z", "z"), s))),
             ):
                 self.check(before + inner + after, (wrap(statement),))
@@ -126,10 +152,16 @@ class WrongLines(unittest.TestCase):
         self.assertEqual(caught(BadText, read_play, text=None), 0)
 
     def test_words(self):
-        for value in WRONG_NAMES + ["Home", "home ", "homes", "home home", "leave", "end", "or", "else", "on p a", "on", "tell",
-                                    "tell p", "hear p", "hear p a b", "hear  p a", "hear p  a", "hear p a ", "set a", "set 1 a",
-                                    "set a 1 1", "tell p 1 ", "tell 1 p", "wait ", "wait p", "open 1", "repeat 1", "if", "if ",
-                                    "if a b", "fail 1", "routine a", "own a", "over", "a", "\t", "home\r", "#", "hear", "set"]:
+        for value in WRONG_NAMES + ["Home", "home ", "homes", "home home", "leave", "end", "or", "else", "on p a",
+            "on", "tell",
+                                    "tell p", "hear p", "hear p a b", "hear  p a", "hear p  a", "hear p a ", "set a",
+                                    "set 1 a",
+                                    "set a 1 1", "tell p 1 ", "tell 1 p", "wait ", "wait p", "open 1", "repeat 1",
+                                    "if", "if ",
+                                    "if a b", "fail 1", "routine a", "own a", "over", "a", "\t", "home\r", "#", "hear",
+                                    "set", "put a 1", "sets a 1",
+                                    "Set a 1", "name a 1", "plus a 1", "end a 1", "open a 1", "(a plus 1)", "1",
+                                    "a 1 1"]:
             if value in ("home", "fail") or "\n" in value or value in ("wait", "open", "repeat", ""):
                 continue
             for number, before in enumerate(["", "home\n", "home\nfail\n"], 1):
@@ -151,14 +183,15 @@ class WrongLines(unittest.TestCase):
                 self.assertEqual(wrong_line(f"fail\n{line}\nelse\nend"), 2)
 
     def test_empty_lines_and_line_feeds(self):
-        for text, number in (("\n", 1), ("\nhome", 1), ("home\n", 2), ("home\n\nhome", 2), ("home\n\n", 2), (" ", 1), ("  ", 1),
-                             ("home\n ", 2), ("open\n\nend", 2), ("open\n  \nend", 2), ("open\nend\n", 3), ("\n\n\n", 1)):
+        for text, number in (("\n", 1), ("\nhome", 1), ("home\n", 2), ("home\n\nhome", 2), ("home\n\n", 2), (" ", 1),
+            ("  ", 1),
+                             ("home\n ", 2), ("open\n\nend", 2), ("open\n  \nend", 2), ("open\nend\n", 3),
+                             ("\n\n\n", 1)):
             self.assertEqual(wrong_line(text), number)
 
     def test_spaces(self):
-        right = "open\n  if 1\n    home\n  else\n    wait\n    on p a\n      fail\n    end\n  end\nor\n  repeat\n    home\n  end\nend"
-        read_routine(right)
-        rows = right.split("\n")
+        read_routine(LONG)
+        rows = LONG.split("\n")
         for index, row in enumerate(rows):
             for wrong in (" " + row, "  " + row, row + " ", row[1:] if row[0] == " " else "   " + row, "\t" + row,
                           row[2:] if row[0] == " " else "    " + row):
@@ -167,8 +200,7 @@ class WrongLines(unittest.TestCase):
                 self.assertEqual(wrong_line(lines(*rows[:index], wrong)), index + 1)
 
     def test_cut_behind_each_line(self):
-        text = "open\n  if 1\n    home\n  else\n    wait\n    on p a\n      fail\n    end\n  end\nor\n  repeat\n    home\n  end\nend"
-        rows = lines("fail", text, "fail", text).split("\n")
+        rows = lines("fail", LONG, "fail", LONG).split("\n")
         for many in range(len(rows) + 1):
             if many in (0, 1, 15, 16, 30):
                 read_routine(lines(*rows[:many]))
@@ -179,9 +211,12 @@ class WrongLines(unittest.TestCase):
         for text, number in (
             ("open\nelse\nend", 2), ("open\non p a\nend", 2), ("if 1\nor\nelse\nend", 2), ("if 1\nend", 2),
             ("if 1\nelse\nelse\nend", 3), ("if 1\nelse\nor\nend", 3), ("if 1\non p a", 2), ("repeat\n  home\nor", 3),
-            ("repeat\n  home\nelse", 3), ("repeat\n  home\non p a", 3), ("wait\nor", 2), ("wait\nelse", 2), ("wait\non p a\nor", 3),
-            ("wait\non p a\nelse", 3), ("wait\n  home\nend", 2), ("wait\nhome", 2), ("open\nor 1\nend", 2), ("open\nend 1", 2),
-            ("if 1\nelse \nend", 2), ("wait\non p\nend", 2), ("wait\non p a b\nend", 2), ("wait\non\nend", 2), ("open\nend\nend", 3),
+            ("repeat\n  home\nelse", 3), ("repeat\n  home\non p a", 3), ("wait\nor", 2), ("wait\nelse", 2),
+            ("wait\non p a\nor", 3),
+            ("wait\non p a\nelse", 3), ("wait\n  home\nend", 2), ("wait\nhome", 2), ("open\nor 1\nend", 2),
+            ("open\nend 1", 2),
+            ("if 1\nelse \nend", 2), ("wait\non p\nend", 2), ("wait\non p a b\nend", 2), ("wait\non\nend", 2),
+            ("open\nend\nend", 3),
             ("open\nend\nor", 3), ("if 1\nelse\nend\nend", 4), ("wait\non p a\nend\non q b", 4), ("open\n  or\nend", 2),
             ("open\n  end\nend", 2), ("if 1\n  else\nend", 2),
         ):
@@ -191,11 +226,13 @@ class WrongLines(unittest.TestCase):
         self.assertEqual(wrong_line(lines(*["home"] * 13)), 13)
         self.assertEqual(wrong_line(lines(*["home"] * 12, "open")), 13)
         self.assertEqual(wrong_line(lines(*["open\nend"] * 12, "open\nend")), 25)
-        for begin, end in (("open", "end"), ("if 1", "else"), ("repeat", "end"), ("wait\non p a", "end"), ("open\nor", "or")):
+        for begin, end in (("open", "end"), ("if 1", "else"), ("repeat", "end"), ("wait\non p a", "end"),
+                ("open\nor", "or")):
             many = begin.count("\n") + 1
             self.assertEqual(wrong_line(lines(begin, *["  home"] * 13, end)), many + 13)
             self.assertEqual(wrong_line(lines(begin, *["  home"] * 12)), many + 13)
-            self.assertEqual(wrong_line(lines(begin, *["  home"] * 12, "  repeat", "    home", "  end", end)), many + 13)
+            self.assertEqual(wrong_line(lines(begin, *["  home"] * 12, "  repeat", "    home", "  end", end)),
+                many + 13)
         read_routine(lines("open", *["  home"] * 12, "or", *["  home"] * 12, "end", *["home"] * 11))
 
     def test_leave(self):
@@ -204,7 +241,8 @@ class WrongLines(unittest.TestCase):
             ("repeat\n  home\nend\nleave", 4), ("repeat\n  home\n  leave\nend\nopen\n  leave\nend", 6),
         ):
             self.assertEqual(wrong_line(text), number)
-        for text in ("repeat\n  leave\nend", "repeat\n  open\n    if 1\n      leave\n    else\n      home\n    end\n  end\nend",
+        for text in ("repeat\n  leave\nend",
+                     "repeat\n  open\n    if 1\n      leave\n    else\n      home\n    end\n  end\nend",
                      "repeat\n  wait\n  on p a\n    leave\n  end\nend"):
             self.assertEqual(routine_text(read_routine(text)), text)
 
@@ -220,7 +258,8 @@ class WrongLines(unittest.TestCase):
                 self.assertEqual(wrong_line(lines(*right, "  " * 11 + "home")), 13)
                 for more in OPENERS + ["wait"]:
                     self.assertEqual(wrong_line(lines(*right, "  " * 11 + more)), 12)
-                    self.assertEqual(wrong_line(lines(*right, "  " * 11 + "home", "  " * 11 + more, "  " * 12 + "home")), 13)
+                    rows = [*right, "  " * 11 + "home", "  " * 11 + more, "  " * 12 + "home"]
+                    self.assertEqual(wrong_line(lines(*rows)), 13)
 
     def test_rows(self):
         rows = ["on p a", "on q a", "on r b", "on s c", "on t d"]
@@ -240,13 +279,15 @@ class WrongLines(unittest.TestCase):
             text = lines("open", *["or"] * (many - 1), "end")
             self.assertEqual(len(read_routine(text).block[0][1]), many)
         self.assertEqual(wrong_line(lines("open", *["or"] * 4, "end")), 5)
-        self.assertEqual(wrong_line(lines("open", "  home", "or", "or", "  open", "  or", "  end", "or", "  fail", "or")), 10)
+        rows = ["open", "  home", "or", "or", "  open", "  or", "  end", "or", "  fail", "or"]
+        self.assertEqual(wrong_line(lines(*rows)), 10)
 
     def test_repeats_that_do_not_deal(self):
         for text, number in (
             ("repeat\nend", 2), ("repeat\n  set a 1\nend", 3), ("repeat\n  if 1\n    home\n  else\n  end\nend", 6),
             ("repeat\n  open\n    tell p 1\n  or\n  end\nend", 6), ("repeat\n  repeat\n    leave\n  end\nend", 5),
-            ("repeat\n  repeat\n    set a 1\n  end\nend", 4), ("home\nrepeat\n  open\n  end\nend\nrepeat\n  home\nend", 5),
+            ("repeat\n  repeat\n    set a 1\n  end\nend", 4),
+            ("home\nrepeat\n  open\n  end\nend\nrepeat\n  home\nend", 5),
             ("repeat\n  repeat\n    if 1\n      leave\n    else\n      hear p a\n    end\n  end\nend", 9),
         ):
             self.assertEqual(wrong_line(text), number)
@@ -322,7 +363,8 @@ class Plays(unittest.TestCase):
     def test_wrong_lines(self):
         rows = self.text.split("\n")
         for index, row in enumerate(rows):
-            for wrong in (" " + row, "  " + row, row + " ", "", "x", "routine", "own", "routine  x", "own  a", "\t" + row,
+            for wrong in (" " + row, "  " + row, row + " ", "", "x", "routine", "own", "routine  x", "own  a",
+                          "\t" + row,
                           "end", "own no", "over p p" if index == 9 else "over p q ", "over  p", "Routine c",
                           "routine a b", "own us us"):
                 if wrong.startswith("  ") and row == "routine b" or row == wrong:
@@ -331,7 +373,8 @@ class Plays(unittest.TestCase):
                 self.assertEqual(self.wrong(*rows[:index], wrong), index + 1)
 
     def test_begin(self):
-        for line in ("", "own a", "over", "  home", "home", "routine", "routine 1", "routine home", "routine abcdefghi", "routine A",
+        for line in ("", "own a", "over", "  home", "home", "routine", "routine 1", "routine home", "routine abcdefghi",
+                     "routine A",
                      "routine a ", "routine  a", " routine a", "routines a", "routine a b", "\t", " "):
             self.assertEqual(self.wrong(line), 1)
             self.assertEqual(self.wrong(line, *self.text.split("\n")), 1)
@@ -366,7 +409,8 @@ class Plays(unittest.TestCase):
 
     def test_over(self):
         begin = ["routine a", "routine b", "own a"]
-        for line in ("over ", "over  p", "over p ", "over q p", "over p p", "over p  q", "over P", "over 1", "over on", "over p set",
+        for line in ("over ", "over  p", "over p ", "over q p", "over p p", "over p  q", "over P", "over 1", "over on",
+                     "over p set",
                      "overp", "over\tp", " over", "over abcdefghi", "Over", "over p,q", "over ab a"):
             self.assertEqual(self.wrong(*begin, line), 4)
         for line, over in (("over", ()), ("over p", ("p",)), ("over a ab b", ("a", "ab", "b"))):
@@ -376,10 +420,12 @@ class Plays(unittest.TestCase):
 
     def test_lines_of_routines(self):
         for text, number in (
-            (["routine a", "  leave"], 2), (["routine a", "home"], 2), (["routine a", "   home"], 2), (["routine a", "    home"], 2),
+            (["routine a", "  leave"], 2), (["routine a", "home"], 2), (["routine a", "   home"], 2),
+            (["routine a", "    home"], 2),
             (["routine a", "  home", "  "], 3), (["routine a", "  home", ""], 3), (["routine a", "  wait", "  end"], 3),
             (["routine a", *["  home"] * 13], 14), (["routine a", *["  home"] * 12, "routine b", *["  home"] * 13], 27),
-            (["routine a", "  repeat", "    set a 1", "  end"], 4), (["routine a", "  end"], 2), (["routine a", "  routine b"], 2),
+            (["routine a", "  repeat", "    set a 1", "  end"], 4), (["routine a", "  end"], 2),
+            (["routine a", "  routine b"], 2),
             (["routine a", "  open", "  or", "  or", "  or", "  or"], 6), (["routine a", "  open", "    own a"], 3),
         ):
             self.assertEqual(self.wrong(*text), number)

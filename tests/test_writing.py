@@ -168,12 +168,14 @@ class Written(Checked):
 
     def test_lines_with_one_block(self):
         fail, home = (line((("fail",),)),), (line(()),)
-        for block, wanted in ((fail, []), (home, AIMS), ((line(fail),), []), ((line(home),), AIMS), ((line(fail, ()),), AIMS)):
+        for block, wanted in ((fail, []), (home, AIMS), ((line(fail),), []), ((line(home),), AIMS),
+                ((line(fail, ()),), AIMS)):
             self.plans_for(play(block, foe=()), wanted)
 
     def test_it_must_foresee_what_it_will_hear_later(self):
         # The first pick alone decides whether it can answer later on.
-        own = (line((("hear", "p", "b"), telling("q", 1, 2)), (("hear", "p", "a"), line((tell("q", A),), (("fail",),)))),)
+        own = (line((("hear", "p", "b"), telling("q", 1, 2)), (("hear", "p", "a"),
+            line((tell("q", A),), (("fail",),)))),)
         foe = (PICK_X, tell("p", X), ("hear", "q", "y"), same("x", "y"))
         self.plans_for(play(own, foe=foe), ["safe", "going", 2, 3, 4, 40])
         first = own[0][1][0]
