@@ -29,7 +29,7 @@ class Frame:
             self.blocks.append(tuple(self.block))
         self.block = []
 
-    def has_row(self, text):
+    def takes_row(self, text):
         """Adds the row of a wait if its line can stand there, and tells whether it can."""
         row = read_names(text)
         if self.begin[0] != "wait" or row is None or len(self.rows) == MOST_CHOICES:
@@ -99,7 +99,7 @@ class Draft:
             can_be = frame.begin[0] == "if" and len(frame.blocks) == 0
         else:
             head, _, rest = text.partition(" ")
-            can_be = head == "on" and frame.has_row(rest)
+            can_be = head == "on" and frame.takes_row(rest)
         if can_be:
             frame.next_block()
         return can_be

@@ -94,10 +94,13 @@ def _dealing(own, stand, nexts):
 
 def _sorted_out(nexts, port):
     """The block that goes on by the digit that was heard at a port."""
-    heard = [digit for digit in range(10) if ("heard", port, digit) in nexts]
-    return tuple([
-        ("if", ("same", ("name", "digit"), digit), _moved_on(nexts, ("heard", port, digit)), ()) for digit in heard
-    ])
+    found = []
+    for digit in range(10):
+        if ("heard", port, digit) in nexts:
+            test = ("same", ("name", "digit"), digit)
+            found.append(("if", test, _moved_on(nexts, ("heard", port, digit)), ()))
+    # The digit is forgotten, so that the routine has no more stands than the plan has states.
+    return (*found, ("set", "digit", 0))
 
 
 def _moved_on(nexts, noted):

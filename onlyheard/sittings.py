@@ -6,6 +6,8 @@ from onlyheard.notices import worlds_behind
 from onlyheard.plans import check_plan
 from onlyheard.ways import Ways, check_run, is_way
 
+LONGEST_NOTICE = 3
+
 
 class Mark:
     """How a sitting was at the begin of a block. `outer` is the mark of the block around it, None if there is none."""
@@ -147,7 +149,14 @@ def tried(sitting, run):
 
 def _copied(state):
     """The pair of the told pick of a state of a plan, and of a new dict to the states behind it."""
-    return (state[3], {noted: number for noted, number in state[4].items()})
+    # Of needless keys, which may be of any kind and size, none is kept but such as look like notices.
+    return (state[3], {noted: number for noted, number in state[4].items() if _is_like_notice(noted)})
+
+
+def _is_like_notice(value):
+    if not isinstance(value, tuple) or len(value) > LONGEST_NOTICE:
+        return False
+    return all([isinstance(part, (str, int)) for part in value])
 
 
 def _is_other_pick(noted, pick):

@@ -3,6 +3,7 @@
 from onlyheard import errors
 from onlyheard.plays import Play
 from onlyheard.routines import Routine
+from onlyheard.sittings import Sitting
 
 KEPT_WORDS = (
     "set tell hear wait on open or if else repeat leave home fail end plus minus same less not routine own over"
@@ -44,7 +45,7 @@ def wrong_values():
     plain = [None, True, False, -1, 10, 10 ** 5000, -(10 ** 5000), (), [], {}]
     plain += WRONG_NAMES
     plain += [Routine(()), Routine((("tell", "p", 1),)), errors.HeardError("a"), errors.BadRoutine((0,))]
-    plain += [Play({"a": Routine(()), "b": Routine(())}, "a"), example_play(("p",))]
+    plain += [Play({"a": Routine(()), "b": Routine(())}, "a"), example_play(("p",)), Sitting(example_play())]
     plain += [[0], [1, 2], ["a"], {0: 1}, {"a": "b"}, {(0,): ()}, [("set", "a", 1)], {"set": ("a", 1)}]
     plain += [(0,) * 100000, [0] * 100000, tuple(range(1000)), "ab" * 100000]
     values = list(plain)

@@ -8,7 +8,7 @@ from onlyheard.errors import BadAim, BadPicks, NoPath, NoPick, TooMany
 from onlyheard.picks import alone, breaking, fixed, fixed_play, least_home, needed, struck
 from onlyheard.plays import Play
 from onlyheard.routines import Routine
-from onlyheard.worlds import is_failed, is_stuck, led
+from onlyheard.worlds import is_failed, is_stuck, led, worlds
 from onlyheard.writing import written
 from planned import EXAMPLE, wrong_aims, wrong_but
 from samples import (
@@ -133,14 +133,19 @@ class Breaking(unittest.TestCase):
                 call(one, "going")
 
     def test_401_pairs(self):
-        # One world more, that of "us" behind the last dealing, is home.
-        own = (("hear", "p", "x"),) * 3
-        for many, wanted in ((100, None), (101, 400)):
-            one = bells(many, own, over=())
-            if wanted is None:
-                self.assertIsNone(breaking(one, 3))
+        # Two pairs ahead, and then each world of the teller with each number of dealings.
+        bell = (tell("r", 0), tell("g", 0), ("repeat", (tell("p", 0),)))
+        own = (("hear", "r", "a"), ("repeat", (("hear", "p", "a"),)))
+        for many, aim, is_more in ((199, 2, False), (133, 3, True), (57, 7, True), (21, 19, True)):
+            teller = (("hear", "g", "y"), *counter(many - 1, "q").block)
+            one = play(own, bell=bell, teller=teller, x=listener("q").block)
+            self.assertEqual([len(worlds(one)), 2 + many * aim], [2 + many, 401 if is_more else 400])
+            if is_more:
+                self.assertEqual(caught(TooMany, breaking, one, aim), 400)
+                self.assertEqual(caught(TooMany, fixed, one, aim), 400)
             else:
-                self.assertEqual(caught(TooMany, breaking, one, 3), wanted)
+                self.assertEqual(len(breaking(one, aim)), aim + 1)
+                self.assertIsNone(fixed(one, aim))
 
     def test_not_on_behind_n_dealings(self):
         # At a tell, a hear or a wait nobody deals on, though there are worlds behind that.

@@ -191,7 +191,7 @@ class RandomPicks(unittest.TestCase):
             if len(ports) > 6:
                 self.assertEqual(caught(TooMany, least_over, play, aimed.aim), 6)
                 continue
-            if len(ports) > 4 or len(aimed.known) > 60:
+            if len(ports) > 4 or len(aimed.known) > 40:
                 continue
             good, bad = [], []
             for over in self.tuples(ports):

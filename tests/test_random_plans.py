@@ -192,6 +192,7 @@ class RandomPlans(unittest.TestCase):
         self.assertEqual(routine.open_lines(), [])
         blocks = {name: routine.block for name, routine in play.with_own(routine).routines.items()}
         alone = Game(blocks, play.own).walk(10 ** 5)
+        self.assertLessEqual(len(alone), sum(len(state[1]) for state in plan))
         one = Planned({**blocks, play.own: aimed.block}, play.own, aimed.known, plan)
         self.assertTrue(deals_alike(one, Alone(blocks, play.own, alone, None)))
         self.assertLessEqual(longest_way(routine.block, (0, 1, 2)), 4000)
