@@ -85,7 +85,7 @@ class Draft:
             self._frames.append(Frame(begin))
         else:
             block.append(begin)
-        self._many += 1
+        self._many = self._many + 1
         return True
 
     def _goes_on(self, text):

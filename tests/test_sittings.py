@@ -181,6 +181,17 @@ class Plans(unittest.TestCase):
         sitting += RUN[:2]
         self.assertEqual(sitting.moves(), [RUN[2]])
 
+    def test_one_by_one_from_the_first_notice_on(self):
+        play = counted(30)
+        sitting = Sitting(play, written(play, "safe")[1])
+        move = ("tell", "teller", "us", "p")
+        for many in range(30):
+            self.assertEqual(sitting.trial([move]), [("heard", "p", many % 10)])
+            self.assertEqual(sitting.do(move), ("heard", "p", many % 10))
+            self.assertIs(sitting.back(), True)
+            sitting += [move]
+        self.assertEqual(sitting.moves(), [])
+
     def test_needless_keys_and_states(self):
         plan = changed(PLAN, 0, 4, {**PLAN[0][4], ("told", "q"): 6, None: 6}) + [(FIRST[1], (), None, None, {})]
         sitting = Sitting(EXAMPLE, plan)
