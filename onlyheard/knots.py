@@ -22,7 +22,7 @@ def knot_fault(play, aim, knot):
             return ("form", index)
         parts.append(part)
     numbers, left, _ = parts[0]
-    if _outside(numbers, chart.spread([chart.begin])) is not None or left != first_left(aim):
+    if _first_unwanted(numbers, chart.spread([chart.begin])) is not None or left != first_left(aim):
         return ("start",)
     for index in range(len(parts)):
         fault = _fault_of(chart, aim, parts, index)
@@ -75,7 +75,7 @@ def _fault_of(chart, aim, parts, index):
     if not all([parts[part][1] == left_behind(left, noted) for noted, part in pairs]):
         return ("left", index)
     for noted, part in pairs:
-        wrong = _outside(parts[part][0], chart.spreads_behind(around).get(noted, ()))
+        wrong = _first_unwanted(parts[part][0], chart.spreads_behind(around).get(noted, ()))
         if wrong is not None:
             return ("world", index, chart.worlds[wrong])
     return None
@@ -93,7 +93,7 @@ def _behind(why):
     return [(("pick", k), part) for k, part in enumerate(why[1])]
 
 
-def _outside(numbers, wanted):
+def _first_unwanted(numbers, wanted):
     """The first of some numbers that is none of the wanted ones, None if there is none."""
     known = set(wanted)
     for number in numbers:

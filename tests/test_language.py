@@ -3,6 +3,7 @@
 import ast
 import builtins
 import pathlib
+import re
 import unittest
 
 PACKAGE = pathlib.Path(__file__).resolve().parent.parent / "onlyheard"
@@ -24,6 +25,14 @@ BARRED_WORDS = (
     "NamedTuple TypedDict TYPE_CHECKING abstractmethod dataclass overload contextmanager register mro elements input "
     "law version_info with_traceback add_note"
 ).split()
+# The names that L12 bars: the first two lines by how they begin, the last one whole. L12 would let an attribute begin
+# with the first of them; here it may not, so that a look at the words alone is enough.
+BARRED_NAME = re.compile(
+    r"_(wall|WallAttr|sre)\w*"
+    r"|_(pe|dcw|enum|cm|twin_re|lay|law|stub)_\w*"
+    r"|_(cold|tuplegetter|outside|record|written_out|member_names)[0-9_]*"
+)
+PLAIN_NAME = re.compile(r"_|_?[A-Za-z][A-Za-z0-9_]*|__[a-z]+__")
 BARRED_NODES = (ast.GeneratorExp, ast.AsyncFunctionDef, ast.AsyncFor, ast.AsyncWith, ast.Await, ast.Div)
 
 
@@ -33,6 +42,17 @@ def trees():
 
 def nodes(*kinds):
     return [(path.name, node) for path, tree in trees() for node in ast.walk(tree) if isinstance(node, kinds)]
+
+
+def barred_names(text):
+    """The words of a text, its strings and comments included, that are names which L12 bars."""
+    return [word for word in re.findall(r"\w+", text) if BARRED_NAME.fullmatch(word)]
+
+
+def names_of(node):
+    """The names that a node of a tree tells by itself."""
+    told = [getattr(node, field, None) for field in ("id", "arg", "attr", "name", "asname", "rest")]
+    return [name for name in told + getattr(node, "names", []) if isinstance(name, str)]
 
 
 class Files(unittest.TestCase):
@@ -108,6 +128,36 @@ class Words(unittest.TestCase):
         for path in FILES:
             names = {node.id for node in ast.walk(ast.parse(path.read_text())) if isinstance(node, ast.Name)}
             self.assertEqual(names & set(BARRED_WORDS), set(), path)
+
+    def test_barred_names(self):
+        for path in FILES:
+            self.assertEqual(barred_names(path.read_text()), [], path)
+
+    def test_barred_names_are_found_wherever_they_stand(self):
+        for name in (
+            "_cold _tuplegetter _outside _record _written_out _member_names _outside2 _cold_ _record_1_ _wall _walls "
+            "_WallAttr _WallAttrs _pe_a _dcw_a _enum_ _cm_a _twin_re_a _lay_a _law_a _stub_a _sre _sres"
+        ).split():
+            texts = (f"def {name}(a):", f"b = self.{name}(a)", f"[{name}]", f"# {name}.", f'c = "{name}"', f"{name}\n")
+            for text in texts:
+                self.assertEqual(barred_names(text), [name], text)
+
+    def test_names_that_are_like_barred_ones_are_none(self):
+        for name in (
+            "outside _outsider _outside_of _outside_2a far_outside _colder _records _written _member_name walls "
+            "left_wall WallAttr _pe _enum _law _laws _lays sre"
+        ).split():
+            self.assertEqual(barred_names(f"def {name}(a): return {name}(a)"), [], name)
+
+    def test_names_are_plain(self):
+        for name, node in nodes(ast.AST):
+            for word in names_of(node):
+                for part in word.split("."):
+                    self.assertTrue(PLAIN_NAME.fullmatch(part), (name, word))
+            if isinstance(node, ast.ClassDef):
+                self.assertFalse(node.name.startswith("_"), (name, node.name))
+            if isinstance(node, ast.Name) and node.id == "_":
+                self.assertIsInstance(node.ctx, ast.Store, (name, node.lineno))
 
     def test_barred_nodes(self):
         self.assertEqual(nodes(*BARRED_NODES), [])
